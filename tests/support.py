@@ -1,0 +1,252 @@
+"""What several tests need: nets, odd values, calls that are refused, and sums by Python's own Fractions."""
+
+import random
+from fractions import Fraction
+from itertools import combinations
+
+from cordsatrest.errors import RestError
+from cordsatrest.nets import Net
+
+NONE, ONE = (0, 1), (1, 1)
+PEGS = 'abcdefghijklmnop'
+RINGS = 'qrstuvwx'
+
+
+def net_of(*lines):
+    return Net('\n'.join(lines))
+
+
+def nested(deep):
+    """Tuples in one another, this deep."""
+    value = ()
+    for _ in range(deep - 1):
+        value = (value, 1)
+    return value
+
+
+def odd_values():
+    """Values of any kind (section 2), none of which is a name, a number of a cord, pulls, or rows of a net."""
+    return [
+        None, True, False, -1, 20, 10 ** 12 - 1, '', 'Q', 'zzzzzz', 'toolong', '0', '1/2', 'q ', [], [0], ['q'], {},
+        {'q': 1}, Net('net 1\npeg a 0\nring q 1 0\ncord a q'), (None,), ('q',), (('q',),), (0,), (True, 1), ([],),
+        ({},), (Net('net 1\npeg a 0'),), nested(30),
+    ]
+
+
+def not_fractions():
+    """Values that are no fractions, though some of them look nearly so."""
+    return [
+        (2, 4), (0, 2), (1, 0), (1, -1), (-1, -2), (0, -1), (True, 1), (1, True), (False, 1), [1, 1], (1,), (1, 1, 1),
+        1, 0, None, '1', ('1', 1), (None, 1), ((1, 1), 1), (), True, {}, nested(30),
+    ]
+
+
+def refused(case, error, value, call, *args, **named):
+    """Check that the call raises just this error with just this value."""
+    with case.assertRaises(RestError) as caught:
+        call(*args, **named)
+    case.assertIs(type(caught.exception), error)
+    case.assertIs(type(caught.exception.value), type(value))
+    case.assertEqual(caught.exception.value, value)
+
+
+def word(number):
+    """A Fraction, or an integer, as a net's text has it."""
+    return str(Fraction(number))
+
+
+def random_part(chance, fine):
+    return word(Fraction(chance.randint(-6, 6), chance.choice((1, 1, 2, 3)) if fine else 1))
+
+
+def random_net(chance, coords, pegs, rings, cords, fine=False):
+    """A net with so many pegs and rings, and as many cords, perhaps, as are told."""
+    lines, places, weighed = ['net {}'.format(coords)], {}, RINGS[:rings]
+    for name in PEGS[:pegs]:
+        places[name] = [random_part(chance, fine) for _ in range(coords)]
+        lines.append('peg {} {}'.format(name, ' '.join(places[name])))
+    for name in weighed:
+        places[name] = [random_part(chance, fine) for _ in range(coords)]
+        weight = [random_part(chance, fine) for _ in range(coords)]
+        lines.append('ring {} {} {}'.format(name, ' '.join(places[name]), ' '.join(weight)))
+    pairs = [(a, b) for a, b in combinations(places, 2) if b in weighed and places[a] != places[b]]
+    chance.shuffle(pairs)
+    for pair in pairs[:cords]:
+        one, other = chance.sample(pair, 2)
+        lines.append('cord {} {}'.format(one, other))
+    return Net('\n'.join(lines))
+
+
+def random_nets(many, most_cords=8, seed=7):
+    """So many small nets of one to three coordinates."""
+    chance = random.Random(seed)
+    found = []
+    for number in range(many):
+        shape = chance.randint(1, 5), chance.randint(0, 4), chance.randint(0, most_cords)
+        found.append(random_net(chance, number % 3 + 1, *shape, fine=number % 2 == 1))
+    return found
+
+
+def knit_net(chance, coords, most_cords):
+    """A net in which most rings lie straight between two others, tied to both, with some more cords."""
+    places = {name: [Fraction(chance.randint(-4, 4)) for _ in range(coords)] for name in PEGS[:chance.randint(2, 5)]}
+    lines = ['net {}'.format(coords)]
+    lines += ['peg {} {}'.format(name, ' '.join(map(word, place))) for name, place in places.items()]
+    pairs = []
+    for name in RINGS[:chance.randint(1, 4)]:
+        one, other = chance.sample(sorted(places), 2)
+        share = Fraction(1, chance.choice((2, 2, 3)))
+        places[name] = [a + share * (b - a) for a, b in zip(places[one], places[other])]
+        if chance.random() < 0.2:
+            places[name] = [Fraction(chance.randint(-4, 4)) for _ in range(coords)]
+        lines.append('ring {} {}'.format(name, ' '.join(list(map(word, places[name])) + ['0'] * coords)))
+        pairs += [(name, one), (other, name)]
+    further = [pair for pair in combinations(places, 2) if pair[1] in RINGS and not {pair, pair[::-1]} & set(pairs)]
+    chance.shuffle(further)
+    pairs = [pair for pair in pairs if chance.random() < 0.9] + further[:chance.randint(0, 4)]
+    pairs = [(one, other) for one, other in pairs if places[one] != places[other]][:most_cords]
+    chance.shuffle(pairs)
+    return Net('\n'.join(lines + ['cord {} {}'.format(*pair) for pair in pairs]))
+
+
+def knit_nets(many, most_cords=9, seed=7):
+    """So many such nets of one to three coordinates."""
+    chance = random.Random(seed)
+    return [knit_net(chance, number % 3 + 1, most_cords) for number in range(many)]
+
+
+def bound_net(coords, seed=3):
+    """A net at its bounds: sixteen pegs, eight rings, twenty cords."""
+    net = random_net(random.Random(seed), coords, 16, 8, 20, fine=True)
+    assert (len(net.pegs), len(net.rings), len(net.cords)) == (16, 8, 20)
+    return net
+
+
+def grid_net(coords):
+    """A net at its bounds with rounds to find: four rings on lines between pegs, four that cords tie to these."""
+    spread = {name: [0] * coords for name in PEGS + RINGS}
+    for number, name in enumerate(PEGS):
+        spread[name][0] = number % 2 * 4
+        spread[name][-1] += number // 2 * (10 if coords == 1 else 1)
+    for number, name in enumerate(RINGS):
+        spread[name][0] = 2 if number < 4 else 1
+        spread[name][-1] += number * (10 if coords == 1 else 1)
+    lines = ['net {}'.format(coords)]
+    lines += ['peg {} {}'.format(name, ' '.join(map(word, spread[name]))) for name in PEGS]
+    lines += ['ring {} {}'.format(name, ' '.join(list(map(word, spread[name])) + ['-1/2'] * coords)) for name in RINGS]
+    for number, name in enumerate(RINGS):
+        lines.append('cord {} {}'.format(PEGS[2 * number], name))
+        if number < 4:
+            lines.append('cord {} {}'.format(name, PEGS[2 * number + 1]))
+    lines += ['cord {} {}'.format(RINGS[at], RINGS[at + 1]) for at in range(7)]
+    lines.append('cord q s')
+    return Net('\n'.join(lines))
+
+
+def exact(row):
+    """A row of told fractions as Fractions."""
+    return [Fraction(*part) for part in row]
+
+
+def told(number):
+    """A Fraction as told."""
+    return (Fraction(number).numerator, Fraction(number).denominator)
+
+
+def drawn(net):
+    """The place of each peg and ring, read from the net's text."""
+    places = {}
+    for line in net.text.split('\n')[1:]:
+        kind, name, *words = line.split(' ')
+        if kind != 'cord':
+            places[name] = [Fraction(part) for part in words[:net.coords]]
+    return places
+
+
+def weights(net):
+    """The weight of each ring, read from the net's text."""
+    found = {}
+    for line in net.text.split('\n')[1:]:
+        kind, name, *words = line.split(' ')
+        if kind == 'ring':
+            found[name] = [Fraction(part) for part in words[net.coords:]]
+    return found
+
+
+def put(net, rows):
+    """The place of each peg and ring if rings are put to these rows."""
+    many = len(rows[0]) if rows else net.coords
+    places = {name: place + [Fraction(0)] * (many - net.coords) for name, place in drawn(net).items()}
+    places.update(zip(net.rings, map(exact, rows)))
+    return places
+
+
+def square_between(places, one, other):
+    return sum((a - b) ** 2 for a, b in zip(places[one], places[other]))
+
+
+def pulls_at(net, pulls, ring):
+    """All that draws at a ring, without weights."""
+    places, total = drawn(net), [Fraction(0)] * net.coords
+    for pull, (one, other) in zip(exact(pulls), net.cords):
+        if ring in (one, other):
+            far = other if ring == one else one
+            total = [a + pull * (x - y) for a, x, y in zip(total, places[far], places[ring])]
+    return total
+
+
+def single_solution(columns):
+    """The numbers, up to a factor, by which the columns sum to noughts, if there is just one such row; else None."""
+    width, height = len(columns), len(columns[0])
+    rows = [[column[at] for column in columns] for at in range(height)]
+    solved = []
+    for at in range(width):
+        pivot = next((row for row in rows if row[at] != 0), None)
+        if pivot is None:
+            continue
+        rows = [row for row in rows if row is not pivot]
+        pivot = [part / pivot[at] for part in pivot]
+        rows = [[a - row[at] * b for a, b in zip(row, pivot)] for row in rows]
+        solved = [(where, [a - row[at] * b for a, b in zip(row, pivot)]) for where, row in solved] + [(at, pivot)]
+    free = [at for at in range(width) if at not in [where for where, _ in solved]]
+    if len(free) != 1:
+        return None
+    found = [Fraction(1)] * width
+    for where, row in solved:
+        found[where] = -row[free[0]]
+    return found
+
+
+def pulled_cords(net, free):
+    """The numbers of all cords that pulls, balanced at the free rings, pull: by going through all sets of cords.
+
+    Such pulls are sums of those that no others of them are above 0 at fewer cords of; of these only one is above 0
+    at just its cords, up to a factor.
+    """
+    places, columns = drawn(net), {}
+    for number, (one, other) in enumerate(net.cords):
+        if one in free or other in free:
+            way = [b - a for a, b in zip(places[one], places[other])]
+            parts = {one: way, other: [-part for part in way]}
+            columns[number] = [part for ring in free for part in parts.get(ring, [Fraction(0)] * net.coords)]
+    found = set()
+    for many in range(1, len(columns) + 1):
+        for cords in combinations(columns, many):
+            if not found.issuperset(cords):
+                row = single_solution([columns[cord] for cord in cords])
+                if row is not None and (all(part > 0 for part in row) or all(part < 0 for part in row)):
+                    found.update(cords)
+    return found
+
+
+def expected_rounds(net):
+    """For each round (the set of the cords that it pulls, the rings that it reaches), by section 7's words."""
+    found, free = [], list(net.rings)
+    while True:
+        cords = pulled_cords(net, free)
+        ends = [name for cord in cords for name in net.cords[cord]]
+        rings = tuple(ring for ring in free if ring in ends)
+        if not rings:
+            return found
+        found.append((cords, rings))
+        free = [ring for ring in free if ring not in rings]

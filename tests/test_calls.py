@@ -1,0 +1,145 @@
+"""Section 2: calls by position and by name, arguments that are not changed, equal calls, plain kinds of values."""
+
+import inspect
+import unittest
+from fractions import Fraction
+
+from cordsatrest import nets, placements, rounds
+from cordsatrest.nets import Net
+from cordsatrest.placements import mixture, moved, picture
+from support import NONE, ONE, bound_net, grid_net, nested, net_of, random_nets, told
+
+INTERFACE = {
+    nets: {'place_of': 'net name', 'weight_of': 'net name', 'square_of': 'net cord', 'cords_at': 'net name'},
+    placements: {
+        'picture': 'net', 'is_placement': 'net value', 'lets': 'net placement', 'score': 'net placement',
+        'between': 'net placement one other', 'mixture': 'net one other share', 'moved': 'net moves step',
+    },
+    rounds: {
+        'rounds': 'net', 'shows_rounds': 'net value', 'held': 'net', 'round_of': 'net ring', 'alike': 'net cord',
+        'loosening': 'net', 'shows_loosening': 'net value', 'further': 'net',
+    },
+}
+
+
+def calls(net):
+    """(function, further arguments) for each function of the interface, some of them several times."""
+    drawn, ring, peg = picture(net), net.rings[-1], net.pegs[-1]
+    moves = ((ONE,) * net.coords,) * len(net)
+    deep = tuple(row + (NONE,) * (12 - net.coords) for row in drawn)
+    found = [(nets.place_of, (ring,)), (nets.weight_of, (ring,)), (nets.square_of, (len(net.cords) - 1,))]
+    found += [(nets.cords_at, (peg,)), (placements.picture, ()), (placements.is_placement, (deep,))]
+    found += [(placements.is_placement, (moves,)), (placements.is_placement, ([drawn],)), (placements.lets, (deep,))]
+    found += [(placements.score, (drawn,)), (placements.between, (deep, peg, ring))]
+    found += [(placements.moved, (moves, (-1, 2))), (placements.mixture, (deep, drawn, (1, 3)))]
+    found += [(rounds.rounds, ()), (rounds.held, ()), (rounds.further, ())]
+    found += [(rounds.shows_rounds, (rounds.rounds(net),)), (rounds.shows_rounds, ([{'a': [1]}],))]
+    found += [(rounds.round_of, (ring,)), (rounds.alike, (0,)), (rounds.loosening, ())]
+    return found + [(rounds.shows_loosening, (rounds.loosening(net),)), (rounds.shows_loosening, ([moves, {}],))]
+
+
+def some_nets():
+    """Nets with a ring and a cord, three of them with rounds, six of them at their bounds."""
+    plain = [net for net in random_nets(12) if net.cords]
+    return plain + [make(coords) for coords in (1, 2, 3) for make in (bound_net, grid_net)]
+
+
+def is_plain(value):
+    """Whether a told value is made of tuples, strings, integers, bools and None themselves."""
+    if type(value) is tuple:
+        return all([is_plain(part) for part in value])
+    return value is None or type(value) in (str, int, bool)
+
+
+def pairs_in(value):
+    """All pairs of integers in a told value."""
+    if not isinstance(value, tuple):
+        return []
+    if len(value) == 2 and isinstance(value[0], int):
+        return [value]
+    return [pair for part in value for pair in pairs_in(part)]
+
+
+class TestCalls(unittest.TestCase):
+    def test_all_functions_are_called(self):
+        called = {call.__name__ for call, _ in calls(grid_net(2))}
+        self.assertEqual(called, {name for names in INTERFACE.values() for name in names})
+
+    def test_names_of_parameters(self):
+        for module, names in INTERFACE.items():
+            for name, words in names.items():
+                with self.subTest(name):
+                    self.assertEqual(list(inspect.signature(getattr(module, name)).parameters), words.split())
+                    self.assertEqual(getattr(module, name).__module__, module.__name__)
+        self.assertEqual(list(inspect.signature(Net).parameters), ['text'])
+
+    def test_by_position_and_by_name(self):
+        for net in some_nets():
+            for call, args in calls(net):
+                with self.subTest(net=net.text, call=call):
+                    words = INTERFACE[inspect.getmodule(call)][call.__name__].split()
+                    named = dict(zip(words, (net,) + args))
+                    answer = call(net, *args)
+                    self.assertEqual(call(**named), answer)
+                    self.assertEqual(call(**dict(reversed(list(named.items())))), answer)
+                    self.assertEqual(call(net, **dict(list(named.items())[1:])), answer)
+
+    def test_equal_calls_tell_the_same(self):
+        for net in some_nets():
+            for call, args in calls(net):
+                with self.subTest(net=net.text, call=call):
+                    answer = call(net, *args)
+                    self.assertTrue(is_plain(answer))
+                    self.assertEqual(repr(call(net, *args)), repr(answer))
+                    self.assertEqual(repr(call(Net(net.text), *args)), repr(answer))
+
+    def test_arguments_are_not_changed(self):
+        for net in some_nets():
+            for call, args in calls(net):
+                with self.subTest(net=net.text, call=call):
+                    ahead = repr((vars(net), args))
+                    call(net, *args)
+                    self.assertEqual(repr((vars(net), args)), ahead)
+
+    def test_a_refused_call_changes_nothing(self):
+        net = grid_net(2)
+        ahead = repr(vars(net))
+        for call, args in calls(net):
+            for at in range(len(args)):
+                wrong = args[:at] + (nested(30),) + args[at + 1:]
+                if call.__name__ in ('is_placement', 'shows_rounds', 'shows_loosening'):
+                    self.assertIs(call(net, *wrong), False)
+                else:
+                    self.assertRaises(ValueError, call, net, *wrong)
+                self.assertEqual(repr(vars(net)), ahead)
+
+    def test_nets_keep_plain_values(self):
+        for net in some_nets():
+            self.assertTrue(is_plain((net.text, net.coords, net.pegs, net.rings, net.cords)))
+            self.assertIs(type(len(net)), int)
+
+    def test_told_values_are_handed_in_again(self):
+        for net in some_nets():
+            answer = rounds.loosening(net)
+            if answer is not None:
+                rows = moved(net, *answer)
+                for _ in range(3):
+                    rows = mixture(net, rows, picture(net), (1, 3))
+                self.assertIs(placements.is_placement(net, rows), True)
+                self.assertEqual(moved(net, answer[0], NONE), picture(net))
+
+    def test_fractions_are_told_in_least_terms(self):
+        net = net_of('net 1', 'peg a 0', 'ring r 4 1/2', 'cord a r')
+        rows = (((4, 3),),)
+        self.assertEqual(placements.score(net, rows), (2, 3))
+        self.assertEqual(placements.lets(net, rows), ((128, 9),))
+        self.assertEqual(moved(net, (((2, 3),),), (3, 2)), (((5, 1),),))
+        self.assertEqual(moved(net, (((-2, 3),),), (6, 1)), ((NONE,),))
+        for net in some_nets():
+            for call in (rounds.rounds, rounds.loosening, rounds.further, picture):
+                for top, bottom in pairs_in(call(net)):
+                    self.assertEqual((top, bottom), told(Fraction(top, bottom)))
+
+
+if __name__ == '__main__':
+    unittest.main()

@@ -1,0 +1,88 @@
+"""The files of the package: where names are defined, and the plainest rules of the language it is written in."""
+
+import ast
+import os
+import unittest
+
+import cordsatrest
+
+FOLDER = os.path.dirname(cordsatrest.__file__)
+DEFINED = {
+    'errors.py': 'RestError BadNet NoName NoCord BadPlacement BadShare BadMoves BadStep BadPulls NoRing BadWords',
+    'nets.py': 'Net place_of weight_of square_of cords_at',
+    'placements.py': 'picture is_placement lets score between mixture moved',
+    'rounds.py': 'rounds shows_rounds held round_of alike loosening shows_loosening further',
+}
+LIBRARY = {'math': {'gcd', 'lcm', 'isqrt', 'comb', 'perm', 'factorial'}}
+
+
+def files():
+    """(name, text) for each file of the package."""
+    names = [name for name in sorted(os.listdir(FOLDER)) if name != '__pycache__']
+    found = []
+    for name in names:
+        with open(os.path.join(FOLDER, name), encoding='utf-8') as file:
+            found.append((name, file.read()))
+    return found
+
+
+class TestFiles(unittest.TestCase):
+    def test_names_are_defined_where_they_are_listed(self):
+        trees = {name: ast.parse(text) for name, text in files()}
+        for name, words in DEFINED.items():
+            defined = [part.name for part in trees[name].body if isinstance(part, (ast.FunctionDef, ast.ClassDef))]
+            self.assertLessEqual(set(words.split()), set(defined))
+
+    def test_methods_stand_in_the_class(self):
+        tree = ast.parse(dict(files())['nets.py'])
+        body = [part for part in tree.body if isinstance(part, ast.ClassDef) and part.name == 'Net'][0].body
+        self.assertLessEqual({'__init__', '__len__', '__eq__'}, {part.name for part in body if hasattr(part, 'name')})
+
+    def test_size_and_characters(self):
+        for name, text in files():
+            with self.subTest(name):
+                self.assertRegex(name, r'^[a-z_]+\.py$')
+                self.assertRegex(text, r'^[ -~\n]*$')
+                self.assertLessEqual(len(text.split('\n')), 400)
+                self.assertLessEqual(max(map(len, text.split('\n'))), 120)
+
+    def test_small_functions(self):
+        for name, text in files():
+            for part in ast.walk(ast.parse(text)):
+                if isinstance(part, ast.FunctionDef):
+                    with self.subTest(name=name, function=part.name):
+                        self.assertLessEqual(part.end_lineno - part.lineno, 39)
+
+    def test_imports(self):
+        own = {'cordsatrest.' + name[:-3]: text for name, text in files()}
+        for name, text in files():
+            for part in ast.walk(ast.parse(text)):
+                self.assertNotIsInstance(part, ast.Import)
+                if isinstance(part, ast.ImportFrom):
+                    words = {alias.name for alias in part.names}
+                    if part.module in LIBRARY:
+                        self.assertLessEqual(words, LIBRARY[part.module])
+                    else:
+                        self.assertLessEqual(words, bound_in(own[part.module]))
+
+    def test_no_float_and_no_slash(self):
+        for name, text in files():
+            for part in ast.walk(ast.parse(text)):
+                with self.subTest(name):
+                    self.assertNotIsInstance(part, ast.Div)
+                    self.assertFalse(isinstance(part, ast.Constant) and isinstance(part.value, float))
+
+
+def bound_in(text):
+    """The names that a file defines itself."""
+    found = set()
+    for part in ast.parse(text).body:
+        if isinstance(part, (ast.FunctionDef, ast.ClassDef)):
+            found.add(part.name)
+        elif isinstance(part, ast.Assign):
+            found.update(target.id for target in part.targets)
+    return found
+
+
+if __name__ == '__main__':
+    unittest.main()
