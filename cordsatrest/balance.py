@@ -1,10 +1,22 @@
-"""Where pulls balance without weights, and which pulls can."""
+"""Where pulls balance, and which pulls can.
 
-from math import lcm
+Groups are tuples of names, no name in two of them; what is in none of them stands fast. Pulls balance at a
+group if all that its rings draw at together comes to noughts: what a cord within a group draws there does.
+"""
 
 from cordsatrest.cones import lowered, parted
-from cordsatrest.nets import cords_at, place_of
-from cordsatrest.ratios import NOUGHT, is_noughts, noughts, row_less, row_sum, row_times
+from cordsatrest.nets import cords_at, place_of, weight_of
+from cordsatrest.ratios import NOUGHT, is_noughts, noughts, ratio, row_less, row_sum, row_times, whole
+
+
+def singles(rings):
+    """Each ring as a group by itself."""
+    return [(ring,) for ring in rings]
+
+
+def group_numbers(groups):
+    """The number of its group, by name."""
+    return {name: number for number, group in enumerate(groups) for name in group}
 
 
 def stretch_at(net, cord, name):
@@ -22,50 +34,96 @@ def drawn_at(net, pulls, ring):
     return total
 
 
-def balance_at(net, pulls, rings):
-    """Whether pulls balance without weights at all these rings."""
-    return all([is_noughts(drawn_at(net, pulls, ring)) for ring in rings])
+def borne_at(net, pulls, ring):
+    """All that is left over at a ring, with its weight."""
+    return row_sum(drawn_at(net, pulls, ring), weight_of(net, ring))
+
+
+def balance_at(net, pulls, groups):
+    """Whether pulls balance without weights at all these groups."""
+    for group in groups:
+        total = noughts(net.coords)
+        for ring in group:
+            total = row_sum(total, drawn_at(net, pulls, ring))
+        if not is_noughts(total):
+            return False
+    return True
+
+
+def bear_at(net, pulls, rings):
+    """Whether pulls balance the weights at all these rings."""
+    return all([is_noughts(borne_at(net, pulls, ring)) for ring in rings])
+
+
+def cords_between(net, groups):
+    """The numbers of all cords whose ends are not in one group, nor both in none."""
+    numbers = group_numbers(groups)
+    return [cord for cord, (one, other) in enumerate(net.cords) if numbers.get(one) != numbers.get(other)]
 
 
 def free_cords(net, free):
     """The numbers of all cords with an end that is a free ring."""
-    return [cord for cord, ends in enumerate(net.cords) if ends[0] in free or ends[1] in free]
+    return cords_between(net, singles(free))
 
 
-def whole_column(net, cord, free):
-    """(column, factor): what a pull of factor in this cord draws at the free rings, in integers."""
-    parts = []
-    for ring in free:
-        parts.extend(stretch_at(net, cord, ring) if ring in net.cords[cord] else noughts(net.coords))
-    factor = 1
-    for part in parts:
-        factor = lcm(factor, part[1])
-    return [part[0] * (factor // part[1]) for part in parts], factor
+def column_at(net, cord, groups):
+    """What a pull of 1 in this cord draws at the groups, one behind the other."""
+    found = []
+    for group in groups:
+        row = noughts(net.coords)
+        for end in net.cords[cord]:
+            if end in group:
+                row = row_sum(row, stretch_at(net, cord, end))
+        found.extend(row)
+    return found
 
 
-def rows_for_rings(net, free, parts):
-    """The integers, in sequence, as rows of the free rings; noughts for all other rings."""
-    rows, at = [], 0
+def rows_for_groups(net, groups, parts):
+    """The integers as rows of the groups, in sequence, for all their rings; noughts for all other rings."""
+    numbers, rows = group_numbers(groups), []
     for ring in net.rings:
-        if ring in free:
+        if ring in numbers:
+            at = numbers[ring] * net.coords
             rows.append(tuple([(part, 1) for part in parts[at:at + net.coords]]))
-            at += net.coords
         else:
             rows.append(noughts(net.coords))
     return tuple(rows)
 
 
-def most_pulls(net, free):
-    """(pulls, moves): pulls balance at the free rings, and pull all their cords that any such pulls pull.
-
-    Cords without a free ring are at 0. Moves put nothing but free rings; they shorten, at first, each cord
-    of these that is not pulled, and leave those that are pulled as long as they are.
-    """
-    cords = free_cords(net, free)
-    pairs = [whole_column(net, cord, free) for cord in cords]
-    amounts, row = parted([column for column, _ in pairs], len(free) * net.coords)
-    whole = lowered([amount * factor for amount, (_, factor) in zip(amounts, pairs)])
+def pulls_for(net, cords, amounts, bottom):
+    """The pulls that are, at these cords, the amounts divided by bottom; 0 at all others."""
     pulls = [NOUGHT] * len(net.cords)
-    for cord, pull in zip(cords, whole):
-        pulls[cord] = (pull, 1)
-    return tuple(pulls), rows_for_rings(net, free, row)
+    for cord, amount in zip(cords, amounts):
+        pulls[cord] = ratio(amount, bottom)
+    return tuple(pulls)
+
+
+def most_pulls(net, groups):
+    """(pulls, moves): pulls balance at the groups, and pull all cords between them that any such pulls pull.
+
+    All other cords are at 0. Moves put nothing but the groups, each as one; they shorten, at first, each cord
+    between groups that is not pulled, and leave those that are pulled as long as they are.
+    """
+    cords = cords_between(net, groups)
+    pairs = [whole(column_at(net, cord, groups)) for cord in cords]
+    amounts, row = parted([column for column, _ in pairs], len(groups) * net.coords)
+    found = lowered([amount * factor for amount, (_, factor) in zip(amounts, pairs)])
+    return pulls_for(net, cords, found, 1), rows_for_groups(net, groups, row)
+
+
+def bearing_pulls(net, loose):
+    """(pulls, moves) for the rings that are not held: one of them, and None in place of the other one.
+
+    Pulls balance the weights at these rings, and pull all their cords that any such pulls pull. Moves put
+    nothing but these rings; they shorten, at first, all their cords, and raise the score.
+    """
+    groups = singles(loose)
+    cords = free_cords(net, loose)
+    pairs = [whole(column_at(net, cord, groups)) for cord in cords]
+    # no pulls balance at these rings without weights: so the weights take part in all that comes to noughts
+    pairs.append(whole([part for ring in loose for part in weight_of(net, ring)]))
+    amounts, row = parted([column for column, _ in pairs], len(loose) * net.coords)
+    found = [amount * factor for amount, (_, factor) in zip(amounts, pairs)]
+    if found[-1] == 0:
+        return None, rows_for_groups(net, groups, row)
+    return pulls_for(net, cords, found[:-1], found[-1]), None

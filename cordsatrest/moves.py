@@ -1,6 +1,6 @@
 """Moves that make cords shorter, and the steps up to which they do."""
 
-from cordsatrest.balance import stretch_at
+from cordsatrest.balance import group_numbers, stretch_at
 from cordsatrest.placements import lets_in, moved
 from cordsatrest.ratios import (
     ONE, divided, is_noughts, least, led_on, noughts, row_less, row_product, row_sum, row_times, square,
@@ -43,34 +43,37 @@ def are_shorter(net, moves, step, cords):
     return all([found[cord][0] > 0 for cord in cords])
 
 
-def moves_just(net, moves, rings):
-    """Whether just these rings are moved, no two of them alike."""
-    rows = [row for ring, row in zip(net.rings, moves) if ring in rings]
-    others = [row for ring, row in zip(net.rings, moves) if ring not in rings]
-    if not all([is_noughts(row) for row in others]) or any([is_noughts(row) for row in rows]):
+def moves_just(net, moves, groups):
+    """Whether just the rings of these groups are moved, those of a group alike, no two groups alike."""
+    numbers = group_numbers(groups)
+    if any([not is_noughts(row) for ring, row in zip(net.rings, moves) if ring not in numbers]):
         return False
-    return len(set(rows)) == len(rows)
+    rows = [[move_of(net, moves, ring) for ring in group] for group in groups]
+    heads = [row[0] for row in rows]
+    if any([is_noughts(head) for head in heads]) or len(set(heads)) < len(heads):
+        return False
+    return all([len(set(row)) == 1 for row in rows])
 
 
-def turned_aside(net, moves, rings, factor):
-    """The moves times a whole factor, with one more number added at each of these rings: 1, 2 and so on."""
-    found, count = [], 0
+def turned_aside(net, moves, groups, factor):
+    """The moves times a whole factor, with one more number added at each of these groups: 1, 2 and so on."""
+    numbers, found = group_numbers(groups), []
     for ring, row in zip(net.rings, moves):
-        if ring in rings:
-            count += 1
-            row = row_sum(row_times(row, (factor, 1)), led_on(((count, 1),), net.coords))
+        if ring in numbers:
+            aside = led_on(((numbers[ring] + 1, 1),), net.coords)
+            row = row_sum(row_times(row, (factor, 1)), aside)
         found.append(row)
     return tuple(found)
 
 
-def spread_out(net, moves, rings, cords):
-    """Moves of just these rings, no two of them alike, that make all these cords shorter at first, as moves do.
+def spread_out(net, moves, groups, cords):
+    """Moves of just these groups, no two of them alike, that make all these cords shorter at first, as moves do.
 
-    What is added at the rings weighs the less, the greater the factor is: so a great enough one always does.
+    What is added at the groups weighs the less, the greater the factor is: so a great enough one always does.
     """
     factor = 1
-    found = turned_aside(net, moves, rings, factor)
-    while not moves_just(net, found, rings) or not all_close(net, found, cords):
+    found = turned_aside(net, moves, groups, factor)
+    while not moves_just(net, found, groups) or not all_close(net, found, cords):
         factor = 2 * factor
-        found = turned_aside(net, moves, rings, factor)
+        found = turned_aside(net, moves, groups, factor)
     return found

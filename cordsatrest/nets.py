@@ -49,16 +49,21 @@ def is_ring(net, value):
     return isinstance(value, str) and value in net.rings
 
 
+def is_name_of(net, value):
+    """Whether any value is the name of a peg or a ring."""
+    return isinstance(value, str) and value in net._places
+
+
 def place_of(net, name):
     """The place of a peg or a ring."""
-    if not isinstance(name, str) or name not in net._places:
+    if not is_name_of(net, name):
         raise NoName(name)
     return net._places[name]
 
 
 def weight_of(net, name):
     """The weight of a ring; noughts for a peg."""
-    if not isinstance(name, str) or name not in net._places:
+    if not is_name_of(net, name):
         raise NoName(name)
     return net._weights.get(name, noughts(net.coords))
 
@@ -73,6 +78,6 @@ def square_of(net, cord):
 
 def cords_at(net, name):
     """The numbers of all cords with this end."""
-    if not isinstance(name, str) or name not in net._places:
+    if not is_name_of(net, name):
         raise NoName(name)
     return tuple([number for number, ends in enumerate(net.cords) if name in ends])

@@ -2,7 +2,7 @@
 
 from cordsatrest.checks import are_moves, are_rows
 from cordsatrest.errors import BadMoves, BadPlacement, BadShare, BadStep, NoName
-from cordsatrest.nets import place_of, square_of, weight_of
+from cordsatrest.nets import is_name_of, place_of, square_of, weight_of
 from cordsatrest.ratios import (
     NOUGHT, ONE, is_fraction, is_less, led_on, minus, plus, row_less, row_product, row_sum, row_times, square,
 )
@@ -22,14 +22,23 @@ def places_in(net, rows):
     return places
 
 
+def squares_in(net, rows):
+    """The square of each cord's length in these rows."""
+    places = places_in(net, rows)
+    return [square(row_less(places[one], places[other])) for one, other in net.cords]
+
+
 def lets_in(net, rows):
     """How much each cord hangs loose in these rows: below 0 where it is longer than drawn."""
-    places = places_in(net, rows)
-    found = []
-    for number, ends in enumerate(net.cords):
-        way = row_less(places[ends[0]], places[ends[1]])
-        found.append(minus(square_of(net, number), square(way)))
-    return tuple(found)
+    return tuple([minus(square_of(net, cord), now) for cord, now in enumerate(squares_in(net, rows))])
+
+
+def score_in(net, rows):
+    """The sum of weight times coordinate in these rows, over all rings and the net's coordinates."""
+    total = NOUGHT
+    for ring, row in zip(net.rings, rows):
+        total = plus(total, row_product(weight_of(net, ring), row[:net.coords]))
+    return total
 
 
 def picture(net):
@@ -53,10 +62,7 @@ def score(net, placement):
     """The sum of weight times coordinate over all rings and the net's coordinates."""
     if not is_placement(net, placement):
         raise BadPlacement(placement)
-    total = NOUGHT
-    for ring, row in zip(net.rings, placement):
-        total = plus(total, row_product(weight_of(net, ring), row[:net.coords]))
-    return total
+    return score_in(net, placement)
 
 
 def between(net, placement, one, other):
@@ -65,7 +71,7 @@ def between(net, placement, one, other):
         raise BadPlacement(placement)
     places = places_in(net, placement)
     for name in (one, other):
-        if not isinstance(name, str) or name not in places:
+        if not is_name_of(net, name):
             raise NoName(name)
     return square(row_less(places[one], places[other]))
 

@@ -1,6 +1,6 @@
 """Fractions as tuples (top, bottom) in least terms, and rows of them."""
 
-from math import gcd
+from math import gcd, lcm
 
 NOUGHT = (0, 1)
 ONE = (1, 1)
@@ -107,3 +107,11 @@ def row_product(one, other):
 def square(row):
     """The product of a row with itself."""
     return row_product(row, row)
+
+
+def whole(row):
+    """(integers, factor): the fractions of a row times the least whole factor that leaves no bottoms."""
+    factor = 1
+    for part in row:
+        factor = lcm(factor, part[1])
+    return [part[0] * (factor // part[1]) for part in row], factor

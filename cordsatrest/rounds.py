@@ -1,6 +1,6 @@
 """Rounds: which rings are where they are drawn in every placement, and how all others can be moved."""
 
-from cordsatrest.balance import balance_at, free_cords, most_pulls
+from cordsatrest.balance import balance_at, free_cords, most_pulls, singles
 from cordsatrest.checks import are_moves, are_pulls, is_step
 from cordsatrest.errors import NoCord, NoRing
 from cordsatrest.moves import are_shorter, best_step, moves_just, spread_out
@@ -17,7 +17,7 @@ def rounds(net):
     """The pulls of each round, and the rings that it reaches."""
     found, free = [], list(net.rings)
     while True:
-        pulls, _ = most_pulls(net, free)
+        pulls, _ = most_pulls(net, singles(free))
         rings = pulled_rings(net, pulls, free)
         if not rings:
             return tuple(found)
@@ -33,7 +33,7 @@ def is_like_round(net, free, told, value):
     if not isinstance(rings, tuple) or rings != told[1] or not are_pulls(net, pulls):
         return False
     alike_pulled = [(own[0] > 0) == (pull[0] > 0) for own, pull in zip(told[0], pulls)]
-    return all(alike_pulled) and balance_at(net, pulls, free)
+    return all(alike_pulled) and balance_at(net, pulls, singles(free))
 
 
 def shows_rounds(net, value):
@@ -85,9 +85,9 @@ def loosening(net):
     loose = loose_rings(net)
     if not loose:
         return None
-    cords = free_cords(net, loose)
-    _, moves = most_pulls(net, loose)
-    moves = spread_out(net, moves, loose, cords)
+    groups, cords = singles(loose), free_cords(net, loose)
+    _, moves = most_pulls(net, groups)
+    moves = spread_out(net, moves, groups, cords)
     return moves, best_step(net, moves, cords)
 
 
@@ -99,7 +99,7 @@ def shows_loosening(net, value):
     if not isinstance(value, tuple) or len(value) != 2:
         return False
     moves, step = value
-    if not are_moves(net, moves) or not is_step(step) or not moves_just(net, moves, loose):
+    if not are_moves(net, moves) or not is_step(step) or not moves_just(net, moves, singles(loose)):
         return False
     return are_shorter(net, moves, step, free_cords(net, loose))
 

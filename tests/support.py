@@ -10,6 +10,7 @@ from cordsatrest.nets import Net
 NONE, ONE = (0, 1), (1, 1)
 PEGS = 'abcdefghijklmnop'
 RINGS = 'qrstuvwx'
+FURTHER_PEGS = ('-3 0', '3 0', '3 6', '3 7', '-9 1', '-9 2', '-9 3')
 
 
 def net_of(*lines):
@@ -41,7 +42,7 @@ def not_fractions():
     ]
 
 
-def refused(case, error, value, call, *args, **named):
+def refused(case, error, value, call, /, *args, **named):
     """Check that the call raises just this error with just this value."""
     with case.assertRaises(RestError) as caught:
         call(*args, **named)
@@ -143,6 +144,37 @@ def grid_net(coords):
     return Net('\n'.join(lines))
 
 
+def stairs(many):
+    """Rings of which each one lies straight between the one ahead of it and a peg, the first one between two pegs."""
+    pegs, rings, cords, at = ['peg a -2 0', 'peg b 2 0'], [], [], [0, 0]
+    for number, name in enumerate('rstuvwxy'[:many]):
+        rings.append('ring {} {} {} 0 0'.format(name, *at))
+        if number == 0:
+            cords += ['cord a r', 'cord r b']
+        else:
+            cords += ['cord {} {}'.format(name, 'rstuvwxy'[number - 1]), 'cord {} {}'.format('cdefghij'[number], name)]
+        way = number % 2
+        at[1 - way] += 1
+        far = list(at)
+        far[1 - way] += 1
+        if number < many - 1:
+            pegs.append('peg {} {} {}'.format('cdefghij'[number + 1], *far))
+    return net_of('net 2', *pegs, *rings, *cords)
+
+
+def full_stairs(coords):
+    """The stairs of eight, made a net at its bounds: more cords on the first line and on the last one."""
+    lines = stairs(8).text.split('\n')
+    lines[10:10] = ['peg {} {}'.format(name, place) for name, place in zip('klmnopq', FURTHER_PEGS)]
+    lines[0] = 'net {}'.format(coords)
+    if coords == 3:
+        lines = [line if line[:4] != 'peg ' else line + ' 0' for line in lines]
+        lines = [line if line[:4] != 'ring' else line[:-4] + ' 0 0 0 0' for line in lines]
+    net = net_of(*lines, 'cord k r', 'cord r l', 'cord m y', 'cord n y')
+    assert (len(net.pegs), len(net.rings), len(net.cords)) == (16, 8, 20)
+    return net
+
+
 def exact(row):
     """A row of told fractions as Fractions."""
     return [Fraction(*part) for part in row]
@@ -217,26 +249,36 @@ def single_solution(columns):
     return found
 
 
-def pulled_cords(net, free):
-    """The numbers of all cords that pulls, balanced at the free rings, pull: by going through all sets of cords.
-
-    Such pulls are sums of those that no others of them are above 0 at fewer cords of; of these only one is above 0
-    at just its cords, up to a factor.
-    """
+def columns_of(net, groups):
+    """For each cord between unlike groups of rings (all else is one group more) what a pull of 1 draws at each."""
     places, columns = drawn(net), {}
     for number, (one, other) in enumerate(net.cords):
-        if one in free or other in free:
+        near, far = [[at for at, group in enumerate(groups) if name in group] for name in (one, other)]
+        if near != far:
             way = [b - a for a, b in zip(places[one], places[other])]
-            parts = {one: way, other: [-part for part in way]}
-            columns[number] = [part for ring in free for part in parts.get(ring, [Fraction(0)] * net.coords)]
-    found = set()
+            parts = {tuple(near): way, tuple(far): [-part for part in way]}
+            columns[number] = [part for at in range(len(groups)) for part in parts.get((at,), [0] * net.coords)]
+    return columns
+
+
+def least_sets(columns):
+    """All least rows of numbers above 0 by which columns sum to noughts, as dicts: by going through all sets.
+
+    Of columns that no fewer of them do so with, only one such row is, up to a factor.
+    """
+    found = []
     for many in range(1, len(columns) + 1):
-        for cords in combinations(columns, many):
-            if not found.issuperset(cords):
-                row = single_solution([columns[cord] for cord in cords])
+        for keys in combinations(columns, many):
+            if not any(row.keys() <= set(keys) for row in found):
+                row = single_solution([columns[key] for key in keys])
                 if row is not None and (all(part > 0 for part in row) or all(part < 0 for part in row)):
-                    found.update(cords)
+                    found.append(dict(zip(keys, [abs(part) for part in row])))
     return found
+
+
+def pulled_cords(net, free):
+    """The numbers of all cords that pulls, balanced at the free rings, pull: such pulls are sums of least ones."""
+    return {cord for row in least_sets(columns_of(net, [(ring,) for ring in free])) for cord in row}
 
 
 def expected_rounds(net):
@@ -250,3 +292,82 @@ def expected_rounds(net):
             return found
         found.append((cords, rings))
         free = [ring for ring in free if ring not in rings]
+
+
+def expected_held(net):
+    """The held rings, in the net's sequence."""
+    reached = [ring for _, rings in expected_rounds(net) for ring in rings]
+    return tuple(ring for ring in net.rings if ring in reached)
+
+
+def expected_bearing(net):
+    """The numbers of all cords that pulls, which bear the weights at all rings not held, pull; None if none do so."""
+    stays, heavy = expected_held(net), weights(net)
+    groups = [(ring,) for ring in net.rings if ring not in stays]
+    columns = columns_of(net, groups)
+    columns['weights'] = [part for group in groups for part in heavy[group[0]]]
+    rows = least_sets(columns)
+    if not any('weights' in row for row in rows):
+        return None
+    return {cord for row in rows for cord in row if cord != 'weights'}
+
+
+def join(net, parts, cords):
+    """The lots behind the joining of all that these cords tie, by going along the cords."""
+    ways = {name: {name} for name in net.pegs + net.rings}
+    for group in list(parts) + [net.cords[cord] for cord in cords]:
+        for name in group:
+            ways[name].update(group)
+    found, left = [], list(net.pegs + net.rings)
+    while left:
+        group = {left[0]}
+        while any(ways[name] - group for name in group):
+            group |= set().union(*(ways[name] for name in group))
+        found.append(tuple(name for name in net.pegs + net.rings if name in group))
+        left = [name for name in left if name not in group]
+    return tuple(found)
+
+
+def expected_lots(net):
+    """(the lots at the beginning, for each round (the set of the cords that it pulls, the lots behind it))."""
+    cords, stays = expected_bearing(net), expected_held(net)
+    first = join(net, [net.pegs + stays], [])
+    parts, found = first, []
+    while cords:
+        parts = join(net, parts, cords)
+        found.append((cords, parts))
+        cords = {cord for row in least_sets(columns_of(net, parts[1:])) for cord in row}
+    return first, found
+
+
+def with_weights(net, rows):
+    """The net with other weights, by ring; None if a net's text cannot have them."""
+    lines = []
+    for line in net.text.split('\n'):
+        words = line.split(' ')
+        if words[0] == 'ring':
+            words[2 + net.coords:] = [word(part) for part in rows[words[1]]]
+        lines.append(' '.join(words))
+    try:
+        return Net('\n'.join(lines))
+    except RestError:
+        return None
+
+
+def hung_net(chance, net):
+    """A net with weights that some pulls bear at all rings that are not held, any ones at the held rings."""
+    while True:
+        pulls = [told(Fraction(chance.choice((0, 0, 0, 1, 1, 2, 3)), chance.choice((1, 1, 2)))) for _ in net.cords]
+        rows = {ring: [-part for part in pulls_at(net, pulls, ring)] for ring in net.rings}
+        for ring in expected_held(net):
+            rows[ring] = [Fraction(chance.randint(-3, 3)) for _ in range(net.coords)]
+        found = with_weights(net, rows)
+        if found is not None:
+            return found
+
+
+def hung_nets(many, most_cords=7, seed=7):
+    """So many nets that hang, half of them with lines of cords."""
+    chance = random.Random(seed)
+    plain, knit = random_nets(many, most_cords, seed), knit_nets(many, most_cords, seed)
+    return [hung_net(chance, knit[number] if number % 2 else plain[number]) for number in range(many)]

@@ -4,10 +4,11 @@ import inspect
 import unittest
 from fractions import Fraction
 
-from cordsatrest import nets, placements, rounds
+from cordsatrest import hanging, lots, nets, placements, pulls, rounds, strays
+from cordsatrest.errors import RestError
 from cordsatrest.nets import Net
 from cordsatrest.placements import mixture, moved, picture
-from support import NONE, ONE, bound_net, grid_net, nested, net_of, random_nets, told
+from support import NONE, ONE, bound_net, grid_net, hung_nets, nested, net_of, random_nets, told
 
 INTERFACE = {
     nets: {'place_of': 'net name', 'weight_of': 'net name', 'square_of': 'net cord', 'cords_at': 'net name'},
@@ -18,6 +19,18 @@ INTERFACE = {
     rounds: {
         'rounds': 'net', 'shows_rounds': 'net value', 'held': 'net', 'round_of': 'net ring', 'alike': 'net cord',
         'loosening': 'net', 'shows_loosening': 'net value', 'further': 'net',
+    },
+    pulls: {
+        'left_over': 'net pulls weighed', 'pulled': 'net held', 'shows_pulled': 'net held value', 'least_rows': 'net held',
+    },
+    hanging: {'hangs': 'net', 'shows_hangs': 'net value', 'does_hang': 'net', 'lower': 'net'},
+    lots: {
+        'lot_rounds': 'net', 'shows_lot_rounds': 'net value', 'lots': 'net', 'lot_round': 'net one other',
+        'does_stay': 'net ring', 'apart': 'net', 'shows_apart': 'net value', 'other_hanging': 'net',
+    },
+    strays: {
+        'bend': 'net pulls rows', 'resistance': 'net pulls one other', 'stray': 'net pulls more lack one other',
+        'score_above': 'net pulls more',
     },
 }
 
@@ -35,12 +48,45 @@ def calls(net):
     found += [(rounds.rounds, ()), (rounds.held, ()), (rounds.further, ())]
     found += [(rounds.shows_rounds, (rounds.rounds(net),)), (rounds.shows_rounds, ([{'a': [1]}],))]
     found += [(rounds.round_of, (ring,)), (rounds.alike, (0,)), (rounds.loosening, ())]
-    return found + [(rounds.shows_loosening, (rounds.loosening(net),)), (rounds.shows_loosening, ([moves, {}],))]
+    found += [(rounds.shows_loosening, (rounds.loosening(net),)), (rounds.shows_loosening, ([moves, {}],))]
+    return found + calls_of_pulls(net) + calls_of_hanging(net)
+
+
+def calls_of_pulls(net):
+    """As above, for pulls and strays."""
+    ring, peg, ones = net.rings[-1], net.pegs[-1], (ONE,) * len(net.cords)
+    found = [(pulls.left_over, (ones, weighed)) for weighed in (False, True)]
+    found += [(pulls.pulled, (net.rings[1:],)), (pulls.least_rows, (net.rings[2:],)), (pulls.least_rows, ((),))]
+    found += [(pulls.shows_pulled, ((), value)) for value in (pulls.pulled(net, ()), ones, [{'a': [1]}])]
+    borne = hanging.hangs(net)[1] if hanging.does_hang(net) else ones
+    rows = tuple(row + (ONE,) for row in picture(net))
+    found += [(strays.bend, (borne, rows)), (strays.resistance, (ones, ring, peg)), (strays.score_above, (borne, ones))]
+    return found + [(strays.stray, (borne, ones, (1, 2), ring, peg))]
+
+
+def calls_of_hanging(net):
+    """As above, for hanging and lots."""
+    ring, peg, told_hangs = net.rings[-1], net.pegs[-1], hanging.hangs(net)
+    found = [(call, ()) for call in (hanging.hangs, hanging.does_hang, hanging.lower, lots.lot_rounds, lots.lots)]
+    found += [(hanging.shows_hangs, (value,)) for value in (told_hangs, list(told_hangs), [{'a': [1]}])]
+    found += [(lots.lot_round, (ring, peg)), (lots.does_stay, (ring,)), (lots.apart, ()), (lots.other_hanging, ())]
+    found += [(call, ([{}],)) for call in (lots.shows_lot_rounds, lots.shows_apart)]
+    if told_hangs[0] == 'pulls':
+        found += [(lots.shows_lot_rounds, (lots.lot_rounds(net),)), (lots.shows_apart, (lots.apart(net),))]
+    return found
+
+
+def answer_of(call, *args, **named):
+    """What a call tells, or the error that it raises with its value."""
+    try:
+        return call(*args, **named)
+    except RestError as error:
+        return type(error).__name__, error.value
 
 
 def some_nets():
-    """Nets with a ring and a cord, three of them with rounds, six of them at their bounds."""
-    plain = [net for net in random_nets(12) if net.cords]
+    """Nets with a ring and a cord, some that hang, six of them at their bounds."""
+    plain = [net for net in random_nets(12) + hung_nets(12) if net.cords]
     return plain + [make(coords) for coords in (1, 2, 3) for make in (bound_net, grid_net)]
 
 
@@ -79,39 +125,40 @@ class TestCalls(unittest.TestCase):
                 with self.subTest(net=net.text, call=call):
                     words = INTERFACE[inspect.getmodule(call)][call.__name__].split()
                     named = dict(zip(words, (net,) + args))
-                    answer = call(net, *args)
-                    self.assertEqual(call(**named), answer)
-                    self.assertEqual(call(**dict(reversed(list(named.items())))), answer)
-                    self.assertEqual(call(net, **dict(list(named.items())[1:])), answer)
+                    answer = answer_of(call, net, *args)
+                    self.assertEqual(answer_of(call, **named), answer)
+                    self.assertEqual(answer_of(call, **dict(reversed(list(named.items())))), answer)
+                    self.assertEqual(answer_of(call, net, **dict(list(named.items())[1:])), answer)
 
     def test_equal_calls_tell_the_same(self):
         for net in some_nets():
             for call, args in calls(net):
                 with self.subTest(net=net.text, call=call):
-                    answer = call(net, *args)
+                    answer = answer_of(call, net, *args)
                     self.assertTrue(is_plain(answer))
-                    self.assertEqual(repr(call(net, *args)), repr(answer))
-                    self.assertEqual(repr(call(Net(net.text), *args)), repr(answer))
+                    self.assertEqual(repr(answer_of(call, net, *args)), repr(answer))
+                    self.assertEqual(repr(answer_of(call, Net(net.text), *args)), repr(answer))
 
     def test_arguments_are_not_changed(self):
         for net in some_nets():
             for call, args in calls(net):
                 with self.subTest(net=net.text, call=call):
                     ahead = repr((vars(net), args))
-                    call(net, *args)
+                    answer_of(call, net, *args)
                     self.assertEqual(repr((vars(net), args)), ahead)
 
     def test_a_refused_call_changes_nothing(self):
-        net = grid_net(2)
-        ahead = repr(vars(net))
-        for call, args in calls(net):
-            for at in range(len(args)):
-                wrong = args[:at] + (nested(30),) + args[at + 1:]
-                if call.__name__ in ('is_placement', 'shows_rounds', 'shows_loosening'):
-                    self.assertIs(call(net, *wrong), False)
-                else:
-                    self.assertRaises(ValueError, call, net, *wrong)
-                self.assertEqual(repr(vars(net)), ahead)
+        for net in (grid_net(2), hung_nets(4)[-1]):
+            ahead = repr(vars(net))
+            for call, args in calls(net):
+                words = INTERFACE[inspect.getmodule(call)][call.__name__].split()[1:]
+                for at, word in enumerate(words):
+                    wrong = args[:at] + (nested(30),) + args[at + 1:]
+                    if word != 'value' or answer_of(call, net, *args) == ('NotHung', None):
+                        self.assertRaises(RestError, call, net, *wrong)
+                    else:
+                        self.assertIs(call(net, *wrong), False)
+                    self.assertEqual(repr(vars(net)), ahead)
 
     def test_nets_keep_plain_values(self):
         for net in some_nets():
@@ -136,9 +183,11 @@ class TestCalls(unittest.TestCase):
         self.assertEqual(moved(net, (((2, 3),),), (3, 2)), (((5, 1),),))
         self.assertEqual(moved(net, (((-2, 3),),), (6, 1)), ((NONE,),))
         for net in some_nets():
-            for call in (rounds.rounds, rounds.loosening, rounds.further, picture):
-                for top, bottom in pairs_in(call(net)):
-                    self.assertEqual((top, bottom), told(Fraction(top, bottom)))
+            for call, args in calls(net):
+                answer = answer_of(call, net, *args)
+                if call is not nets.cords_at:
+                    for top, bottom in pairs_in(answer):
+                        self.assertEqual((top, bottom), told(Fraction(top, bottom)))
 
 
 if __name__ == '__main__':

@@ -58,6 +58,68 @@ LOOSENING = r"""
 [('m',), True, False, True]
 """
 
+PULLS = r"""
+>>> from cordsatrest.nets import Net
+>>> from cordsatrest.pulls import least_rows, left_over, pulled, shows_pulled
+>>> rows = ['net 2', 'peg a 0 0', 'peg b 4 0', 'peg c 2 4', 'ring r 2 0 0 0', 'ring s 2 2 0 -1', 'cord a r', 'cord r b', 'cord r s', 'cord s c']
+>>> line, none, one = Net('\n'.join(rows)), (0, 1), (1, 1)
+>>> left_over(line, (one, one, one, one), False)
+(((0, 1), (2, 1)), ((0, 1), (0, 1)))
+>>> left_over(line, (one, one, none, (1, 2)), True)
+(((0, 1), (0, 1)), ((0, 1), (0, 1)))
+>>> [shows_pulled(line, (), value) for value in ((one, one, none, none), ((2, 3), (2, 3), none, none), (one, (2, 1), none, none), (none, none, none, none))]
+[True, True, False, False]
+>>> [pulled(line, ('r', 's')), least_rows(line, ()), least_rows(line, ('r',))]
+[((0, 1), (0, 1), (0, 1), (0, 1)), (((1, 1), (1, 1), (0, 1), (0, 1)),), (((0, 1), (0, 1), (1, 1), (1, 1)),)]
+>>> star = Net('net 2\npeg e 2 0\npeg w -1 0\npeg n 0 1\npeg d -2 -1\nring r 0 0 0 0\ncord e r\ncord r w\ncord n r\ncord d r')
+>>> [[pull[0] for pull in row] for row in least_rows(star, ())]
+[[1, 0, 1, 1], [1, 2, 0, 0]]
+>>> [shows_pulled(star, (), pulls) for pulls in (((2, 1), (2, 1), one, one), (one, none, one, one))]
+[True, False]
+"""
+
+HANGING = r"""
+>>> from cordsatrest.hanging import does_hang, hangs, lower, shows_hangs
+>>> from cordsatrest.nets import Net
+>>> rows = ('net 2', 'peg a 0 3', 'peg b 4 3', 'ring r 1 1 0 -2', 'ring s 3 1 0 -2', 'cord a r', 'cord r s', 'cord s b')
+>>> net = Net('\n'.join(rows))
+>>> [hangs(net), lower(net), shows_hangs(net, ('pulls', ((1, 1), (1, 1), (1, 1))))]
+[('pulls', ((1, 1), (1, 2), (1, 1))), None, False]
+>>> tilted = Net(net.text.replace('ring s 3 1 0 -2', 'ring s 3 1 0 -1'))
+>>> own = ('lower', (((-5, 1), (-2, 1)), ((-6, 1), (7, 2))), (1, 25))
+>>> [does_hang(tilted), hangs(tilted)[0], shows_hangs(tilted, own), shows_hangs(tilted, own[:2] + ((1, 1),))]
+[False, 'lower', True, False]
+"""
+
+LOTS = r"""
+>>> from cordsatrest.lots import apart, does_stay, lot_round, lot_rounds, lots, shows_apart
+>>> from cordsatrest.nets import Net
+>>> rows = ('net 2', 'peg p 0 5', 'ring k 0 3 0 -1', 'ring u 1 0 -1 0', 'ring v 3 0 1 0', 'cord p k', 'cord u v', 'cord k u')
+>>> net = Net('\n'.join(rows))
+>>> [lots(net), lot_round(net, 'k', 'p'), lot_round(net, 'v', 'u'), lot_round(net, 'u', 'k'), does_stay(net, 'k'), does_stay(net, 'u')]
+[(('p', 'k'), ('u', 'v')), 1, 1, None, True, False]
+>>> lot_rounds(net)
+((((1, 2), (1, 2), (0, 1)), (('p', 'k'), ('u', 'v'))),)
+>>> own = (((0, 1), (0, 1)), ((0, 1), (1, 1)), ((0, 1), (1, 1)))
+>>> [shows_apart(net, (own, (1, 1))), shows_apart(net, (own, (9, 1))), shows_apart(net, ((own[0], own[1], own[0]), (1, 1)))]
+[True, False, False]
+"""
+
+STRAYS = r"""
+>>> from cordsatrest.nets import Net
+>>> from cordsatrest.strays import bend, resistance, score_above, stray
+>>> line = Net('net 1\npeg a 0\npeg b 3\nring r 1 0\ncord a r\ncord r b')
+>>> pulls, more = ((2, 1), (1, 1)), ((1, 1), (1, 1))
+>>> [resistance(line, pulls, 'r', 'a'), resistance(line, pulls, 'b', 'a'), stray(line, pulls, more, (0, 1), 'r', 'b'), bend(line, pulls, (((1, 1), (1, 1)),))]
+[(1, 3), (0, 1), (1, 1), (3, 1)]
+>>> load = Net('net 1\npeg top 0\nring low -1 -1\ncord top low')
+>>> [stray(load, ((1, 1),), ((0, 1),), (1, 2), 'low', 'top'), score_above(load, ((1, 1),), ((3, 1),)), bend(load, ((1, 1),), (((-1, 2), (1, 1)),))]
+[(1, 1), (3, 2), (5, 4)]
+>>> free = Net('net 1\npeg far 9\nring r 0 -1\nring s 1 1\ncord r s')
+>>> [resistance(free, ((1, 1),), 'r', 's'), resistance(free, ((1, 1),), 'r', 'far'), resistance(line, ((2, 1), (0, 1)), 'r', 'b'), resistance(line, ((0, 1), (0, 1)), 'r', 'r')]
+[(1, 1), None, (1, 2), (0, 1)]
+"""
+
 
 class TestExamples(unittest.TestCase):
     def check(self, name, text):
@@ -78,6 +140,18 @@ class TestExamples(unittest.TestCase):
 
     def test_loosening(self):
         self.check('loosening', LOOSENING)
+
+    def test_pulls(self):
+        self.check('pulls', PULLS)
+
+    def test_hanging(self):
+        self.check('hanging', HANGING)
+
+    def test_lots(self):
+        self.check('lots', LOTS)
+
+    def test_strays(self):
+        self.check('strays', STRAYS)
 
     def test_readme(self):
         with open(README, encoding='utf-8') as file:

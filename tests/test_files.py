@@ -11,6 +11,10 @@ DEFINED = {
     'errors.py': 'RestError BadNet NoName NoCord BadPlacement BadShare BadMoves BadStep BadPulls NoRing BadWords',
     'nets.py': 'Net place_of weight_of square_of cords_at',
     'placements.py': 'picture is_placement lets score between mixture moved',
+    'pulls.py': 'left_over pulled shows_pulled least_rows',
+    'hanging.py': 'hangs shows_hangs does_hang lower',
+    'lots.py': 'lot_rounds shows_lot_rounds lots lot_round does_stay apart shows_apart other_hanging',
+    'strays.py': 'bend resistance stray score_above',
     'rounds.py': 'rounds shows_rounds held round_of alike loosening shows_loosening further',
 }
 LIBRARY = {'math': {'gcd', 'lcm', 'isqrt', 'comb', 'perm', 'factorial'}}

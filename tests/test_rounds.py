@@ -8,8 +8,8 @@ from cordsatrest.nets import Net, place_of
 from cordsatrest.placements import is_placement, lets, moved, picture
 from cordsatrest.rounds import alike, further, held, loosening, round_of, rounds, shows_loosening, shows_rounds
 from support import (
-    NONE, ONE, bound_net, drawn, exact, expected_rounds, grid_net, net_of, not_fractions, odd_values, pulls_at, put,
-    knit_nets, random_nets, refused, square_between, told,
+    NONE, ONE, bound_net, drawn, exact, expected_rounds, full_stairs, grid_net, knit_nets, net_of, not_fractions,
+    odd_values, pulls_at, put, random_nets, refused, square_between, stairs, told,
 )
 
 # m straight between a and b, k straight above it, between m and c; l hangs on k alone
@@ -25,38 +25,6 @@ LINES = net_of(
     'cord a r', 'cord r s', 'cord s b', 'cord c t', 'cord t d', 'cord r t', 'cord s t',
 )
 BARE = net_of('net 3', 'peg a 0 0 0')
-FURTHER_PEGS = ('-3 0', '3 0', '3 6', '3 7', '-9 1', '-9 2', '-9 3')
-
-
-def stairs(many):
-    """Rings of which each one lies straight between the one ahead of it and a peg, the first one between two pegs."""
-    pegs, rings, cords, at = ['peg a -2 0', 'peg b 2 0'], [], [], [0, 0]
-    for number, name in enumerate('rstuvwxy'[:many]):
-        rings.append('ring {} {} {} 0 0'.format(name, *at))
-        if number == 0:
-            cords += ['cord a r', 'cord r b']
-        else:
-            cords += ['cord {} {}'.format(name, 'rstuvwxy'[number - 1]), 'cord {} {}'.format('cdefghij'[number], name)]
-        way = number % 2
-        at[1 - way] += 1
-        far = list(at)
-        far[1 - way] += 1
-        if number < many - 1:
-            pegs.append('peg {} {} {}'.format('cdefghij'[number + 1], *far))
-    return net_of('net 2', *pegs, *rings, *cords)
-
-
-def full_stairs(coords):
-    """The stairs of eight, made a net at its bounds: more cords on the first line and on the last one."""
-    lines = stairs(8).text.split('\n')
-    lines[10:10] = ['peg {} {}'.format(name, place) for name, place in zip('klmnopq', FURTHER_PEGS)]
-    lines[0] = 'net {}'.format(coords)
-    if coords == 3:
-        lines = [line if line[:4] != 'peg ' else line + ' 0' for line in lines]
-        lines = [line if line[:4] != 'ring' else line[:-4] + ' 0 0 0 0' for line in lines]
-    net = net_of(*lines, 'cord k r', 'cord r l', 'cord m y', 'cord n y')
-    assert (len(net.pegs), len(net.rings), len(net.cords)) == (16, 8, 20)
-    return net
 
 
 class TestRounds(unittest.TestCase):
