@@ -1,6 +1,6 @@
 """The edges of cones: the rows of integers that all others of a cone are sums of, and no sums of others."""
 
-from cordsatrest.cones import cleared
+from cordsatrest.cones import amounts_or_row, cleared, lowered
 
 
 def signs_of(row, places):
@@ -48,3 +48,25 @@ def edges(columns, height, level):
             places.append(at)
         rows = found
     return rows
+
+
+def is_sum(row, others):
+    """Whether a row is a sum of others, each times a number from 0 on."""
+    columns = others + [[-part for part in row]]
+    amounts, _ = amounts_or_row(columns, len(row), [False] * len(others) + [True])
+    return amounts is not None
+
+
+def outermost(rows):
+    """Those rows that are no sum of others: the rows are of a cone without two contrary ones, lowered, none twice."""
+    found = list(rows)
+    for row in rows:
+        others = [other for other in found if other != row]
+        if is_sum(row, others):
+            found = others
+    return found
+
+
+def lowered_once(rows):
+    """The rows, each divided by the greatest integer that divides it, none twice."""
+    return [list(row) for row in sorted({tuple(lowered(row)) for row in rows})]

@@ -2,7 +2,9 @@
 
 import random
 from fractions import Fraction
+from functools import lru_cache
 from itertools import combinations
+from math import lcm
 
 from cordsatrest.errors import RestError
 from cordsatrest.nets import Net
@@ -228,24 +230,22 @@ def pulls_at(net, pulls, ring):
 
 
 def single_solution(columns):
-    """The numbers, up to a factor, by which the columns sum to noughts, if there is just one such row; else None."""
-    width, height = len(columns), len(columns[0])
-    rows = [[column[at] for column in columns] for at in range(height)]
-    solved = []
+    """The numbers, up to a factor, by which whole columns sum to noughts, if there is just one such row; else None."""
+    width = len(columns)
+    rows, solved, free = [list(row) for row in zip(*columns)], [], []
     for at in range(width):
         pivot = next((row for row in rows if row[at] != 0), None)
         if pivot is None:
+            free.append(at)
             continue
-        rows = [row for row in rows if row is not pivot]
-        pivot = [part / pivot[at] for part in pivot]
-        rows = [[a - row[at] * b for a, b in zip(row, pivot)] for row in rows]
-        solved = [(where, [a - row[at] * b for a, b in zip(row, pivot)]) for where, row in solved] + [(at, pivot)]
-    free = [at for at in range(width) if at not in [where for where, _ in solved]]
+        rows = [[pivot[at] * a - row[at] * b for a, b in zip(row, pivot)] for row in rows if row is not pivot]
+        solved = [(where, [pivot[at] * a - row[at] * b for a, b in zip(row, pivot)]) for where, row in solved]
+        solved.append((at, pivot))
     if len(free) != 1:
         return None
     found = [Fraction(1)] * width
     for where, row in solved:
-        found[where] = -row[free[0]]
+        found[where] = Fraction(-row[free[0]], row[where])
     return found
 
 
@@ -266,7 +266,8 @@ def least_sets(columns):
 
     Of columns that no fewer of them do so with, only one such row is, up to a factor.
     """
-    found = []
+    found, factor = [], lcm(*[part.denominator for column in columns.values() for part in column])
+    columns = {key: [int(part * factor) for part in column] for key, column in columns.items()}
     for many in range(1, len(columns) + 1):
         for keys in combinations(columns, many):
             if not any(row.keys() <= set(keys) for row in found):
@@ -283,6 +284,12 @@ def pulled_cords(net, free):
 
 def expected_rounds(net):
     """For each round (the set of the cords that it pulls, the rings that it reaches), by section 7's words."""
+    return rounds_by_words(net.text)
+
+
+@lru_cache(maxsize=None)
+def rounds_by_words(text):
+    net = Net(text)
     found, free = [], list(net.rings)
     while True:
         cords = pulled_cords(net, free)

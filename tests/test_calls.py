@@ -4,7 +4,7 @@ import inspect
 import unittest
 from fractions import Fraction
 
-from cordsatrest import hanging, lots, nets, placements, pulls, rounds, strays
+from cordsatrest import broken, hanging, lots, nets, placements, pulls, rounds, settled, straight, strays, weighing
 from cordsatrest.errors import RestError
 from cordsatrest.nets import Net
 from cordsatrest.placements import mixture, moved, picture
@@ -32,6 +32,13 @@ INTERFACE = {
         'bend': 'net pulls rows', 'resistance': 'net pulls one other', 'stray': 'net pulls more lack one other',
         'score_above': 'net pulls more',
     },
+    weighing: {'cord_rows': 'net', 'weight_rows': 'net', 'told_back': 'net direction'},
+    straight: {
+        'rising': 'net ring', 'shows_rising': 'net ring value', 'way_pulls': 'net way', 'heavy': 'net',
+        'shows_heavy': 'net value',
+    },
+    settled: {'settled_places': 'net pulls', 'settled': 'net pulls', 'strain': 'net pulls rows'},
+    broken: {'without': 'net cord', 'needed': 'net ring', 'lasting': 'net', 'spare': 'net', 'bare': 'net'},
 }
 
 
@@ -49,7 +56,7 @@ def calls(net):
     found += [(rounds.shows_rounds, (rounds.rounds(net),)), (rounds.shows_rounds, ([{'a': [1]}],))]
     found += [(rounds.round_of, (ring,)), (rounds.alike, (0,)), (rounds.loosening, ())]
     found += [(rounds.shows_loosening, (rounds.loosening(net),)), (rounds.shows_loosening, ([moves, {}],))]
-    return found + calls_of_pulls(net) + calls_of_hanging(net)
+    return found + calls_of_pulls(net) + calls_of_hanging(net) + calls_of_lines(net) + calls_of_pictures(net)
 
 
 def calls_of_pulls(net):
@@ -76,12 +83,31 @@ def calls_of_hanging(net):
     return found
 
 
+def calls_of_lines(net):
+    """As above, for nets on a line."""
+    found = [(straight.heavy, ()), (straight.shows_heavy, (None,)), (straight.shows_heavy, ([{}],))]
+    for ring in net.rings:
+        way = answer_of(straight.rising, net, ring)
+        found += [(straight.rising, (ring,)), (straight.shows_rising, (ring, way)), (straight.way_pulls, (way,))]
+    return found + [(straight.shows_heavy, (answer_of(straight.heavy, net),))]
+
+
+def calls_of_pictures(net):
+    """As above, for weights told back, settled pictures and broken cords."""
+    ones, rows = (ONE,) * len(net.cords), tuple(row + (ONE,) for row in picture(net))
+    found = [(call, ()) for call in (weighing.cord_rows, weighing.weight_rows, broken.lasting, broken.spare, broken.bare)]
+    found += [(weighing.told_back, ((NONE,) * (net.coords - 1) + ((-1, 1),),)), (broken.without, (0,))]
+    found += [(broken.needed, (ring,)) for ring in net.rings]
+    return found + [(settled.settled_places, (ones,)), (settled.settled, (ones,)), (settled.strain, (ones, rows))]
+
+
 def answer_of(call, *args, **named):
-    """What a call tells, or the error that it raises with its value."""
+    """What a call tells, or the error that it raises with its value; a net by its text."""
     try:
-        return call(*args, **named)
+        answer = call(*args, **named)
     except RestError as error:
         return type(error).__name__, error.value
+    return ('net', answer.text) if type(answer) is Net else answer
 
 
 def some_nets():
@@ -148,13 +174,13 @@ class TestCalls(unittest.TestCase):
                     self.assertEqual(repr((vars(net), args)), ahead)
 
     def test_a_refused_call_changes_nothing(self):
-        for net in (grid_net(2), hung_nets(4)[-1]):
+        for net in (grid_net(2), hung_nets(4)[-1], grid_net(1)):
             ahead = repr(vars(net))
             for call, args in calls(net):
                 words = INTERFACE[inspect.getmodule(call)][call.__name__].split()[1:]
                 for at, word in enumerate(words):
                     wrong = args[:at] + (nested(30),) + args[at + 1:]
-                    if word != 'value' or answer_of(call, net, *args) == ('NotHung', None):
+                    if word != 'value' or answer_of(call, net, *args) in (('NotHung', None), ('NoLine', net.coords)):
                         self.assertRaises(RestError, call, net, *wrong)
                     else:
                         self.assertIs(call(net, *wrong), False)
@@ -185,7 +211,8 @@ class TestCalls(unittest.TestCase):
         for net in some_nets():
             for call, args in calls(net):
                 answer = answer_of(call, net, *args)
-                if call is not nets.cords_at:
+                # these tell numbers, no fractions
+                if call not in (nets.cords_at, broken.needed, broken.spare):
                     for top, bottom in pairs_in(answer):
                         self.assertEqual((top, bottom), told(Fraction(top, bottom)))
 

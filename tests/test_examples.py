@@ -120,6 +120,61 @@ STRAYS = r"""
 [(1, 1), None, (1, 2), (0, 1)]
 """
 
+WEIGHING = r"""
+>>> from cordsatrest.nets import Net
+>>> from cordsatrest.weighing import cord_rows, told_back, weight_rows
+>>> chain = Net('net 2\npeg a 0 0\npeg b 6 -1\nring r 1 -2 0 0\nring s 3 -3 0 0\ncord a r\ncord r s\ncord s b')
+>>> cord_rows(chain)
+((((1, 1), (-2, 1)), ((0, 1), (0, 1))), (((-2, 1), (1, 1)), ((2, 1), (-1, 1))), (((0, 1), (0, 1)), ((-3, 1), (-2, 1))))
+>>> [weight_rows(chain)[0], len(weight_rows(chain))]
+[(((-2, 1), (1, 1)), ((2, 1), (-1, 1))), 3]
+>>> [told_back(chain, ((0, 1), (-1, 1))), told_back(chain, ((0, 1), (2, 1))), told_back(chain, ((1, 1), (-1, 1)))]
+[(((9, 1), (7, 1)),), (), ()]
+>>> fork = Net('net 2\npeg a -2 1\npeg b 2 1\npeg c -1 1\nring r 0 0 0 -1\ncord a r\ncord b r\ncord c r')
+>>> [weight_rows(fork), told_back(fork, ((0, 1), (-1, 3)))]
+[((((-2, 1), (-1, 1)),), (((2, 1), (-1, 1)),)), (((1, 1),),)]
+"""
+
+STRAIGHT = r"""
+>>> from cordsatrest.nets import Net
+>>> from cordsatrest.straight import heavy, rising, shows_heavy, way_pulls
+>>> line = Net('net 1\npeg a 0\npeg b 5\nring r 2 0\nring s 3 0\nring t 1 0\nring u 6 0\ncord a t\ncord t s\ncord s b\ncord r s\ncord u b')
+>>> [rising(line, 't'), rising(line, 's'), rising(line, 'r'), rising(line, 'u'), way_pulls(line, ('a', 't', 's', 'b'))]
+[('a', 't', 's', 'b'), ('a', 't', 's', 'b'), None, None, ((1, 1), (1, 2), (1, 2), (0, 1), (0, 1))]
+>>> [heavy(line), heavy(Net('net 1\npeg a 0\nring r -2 -1\ncord a r')), heavy(Net('net 1\npeg a 0\nring r 2 -1\ncord a r'))]
+[None, None, ('down', ('r',))]
+>>> pile = Net('net 1\npeg a 0\nring r 1 2\nring s 2 -3\ncord a r\ncord r s')
+>>> [shows_heavy(pile, ('down', rings)) for rings in (('s',), ('r', 's'), ('r',))]
+[True, True, False]
+"""
+
+SETTLED = r"""
+>>> from cordsatrest.nets import Net
+>>> from cordsatrest.settled import settled, settled_places, strain
+>>> web = Net('net 2\npeg a 0 0\npeg b 4 0\npeg c 0 4\nring r 2 1 0 -1\ncord a r\ncord b r\ncord c r')
+>>> pulls = ((2, 1), (1, 1), (1, 1))
+>>> [settled_places(web, pulls), settled(web, pulls).text.split('\n')[4]]
+[(((1, 1), (3, 4)),), 'ring r 1 3/4 0 -1']
+>>> [strain(web, pulls, settled_places(web, pulls)), strain(web, pulls, (((2, 1), (1, 1)),))]
+[(103, 8), (15, 1)]
+>>> row = Net('net 1\npeg a 0\npeg b 6\nring r 1 0\nring s 2 0\ncord a r\ncord r s\ncord s b')
+>>> [settled_places(row, ((1, 1), (1, 1), (1, 1))), settled(row, ((2, 1), (1, 1), (1, 1))).text.split('\n')[3:5]]
+[(((2, 1),), ((4, 1),)), ['ring r 6/5 0', 'ring s 18/5 0']]
+"""
+
+BROKEN = r"""
+>>> from cordsatrest.broken import bare, lasting, needed, spare, without
+>>> from cordsatrest.nets import Net
+>>> from cordsatrest.rounds import held
+>>> rows = ['net 2', 'peg a 0 0', 'peg b 4 0', 'peg c 2 4', 'ring m 2 0 0 0', 'ring k 2 2 0 0']
+>>> net = Net('\n'.join(rows + ['cord a m', 'cord b m', 'cord c k', 'cord k m', 'cord a k']))
+>>> [held(net), needed(net, 'm'), needed(net, 'k'), spare(net), lasting(net), held(without(net, 2)), bare(net) == without(net, 4)]
+[('m', 'k'), (0, 1), (0, 1, 2, 3), (4,), (), ('m',), True]
+>>> star = Net('net 2\npeg e 1 0\npeg w -1 0\npeg n 0 1\npeg s 0 -1\nring r 0 0 0 0\ncord e r\ncord w r\ncord n r\ncord s r')
+>>> [needed(star, 'r'), lasting(star), spare(star), bare(star).cords]
+[(), ('r',), (0, 1, 2, 3), (('n', 'r'), ('s', 'r'))]
+"""
+
 
 class TestExamples(unittest.TestCase):
     def check(self, name, text):
@@ -152,6 +207,18 @@ class TestExamples(unittest.TestCase):
 
     def test_strays(self):
         self.check('strays', STRAYS)
+
+    def test_weighing(self):
+        self.check('weighing', WEIGHING)
+
+    def test_straight(self):
+        self.check('straight', STRAIGHT)
+
+    def test_settled(self):
+        self.check('settled', SETTLED)
+
+    def test_broken(self):
+        self.check('broken', BROKEN)
 
     def test_readme(self):
         with open(README, encoding='utf-8') as file:

@@ -15,6 +15,10 @@ DEFINED = {
     'hanging.py': 'hangs shows_hangs does_hang lower',
     'lots.py': 'lot_rounds shows_lot_rounds lots lot_round does_stay apart shows_apart other_hanging',
     'strays.py': 'bend resistance stray score_above',
+    'weighing.py': 'cord_rows weight_rows told_back',
+    'straight.py': 'rising shows_rising way_pulls heavy shows_heavy',
+    'settled.py': 'settled_places settled strain',
+    'broken.py': 'without needed lasting spare bare',
     'rounds.py': 'rounds shows_rounds held round_of alike loosening shows_loosening further',
 }
 LIBRARY = {'math': {'gcd', 'lcm', 'isqrt', 'comb', 'perm', 'factorial'}}
