@@ -75,6 +75,10 @@ class TestLots(unittest.TestCase):
             self.assertIs(shows_lot_rounds(net, own[:at] + ((third, parts),) + own[at + 1:]), at > 0)
             for near in ((NONE,) * len(net.cords), tuple(told(part + 1) for part in exact(pulls))):
                 self.assertIs(shows_lot_rounds(net, own[:at] + ((near, parts),) + own[at + 1:]), False)
+            for cord in [cord for cord, pull in enumerate(pulls) if pull[0] > 0]:
+                # what one cord more or less draws is balanced by nothing
+                near = tuple(told(part * (1 + (number == cord))) for number, part in enumerate(exact(pulls)))
+                self.assertIs(shows_lot_rounds(net, own[:at] + ((near, parts),) + own[at + 1:]), False)
             for near in (parts[::-1], parts[:-1], parts + ((),), list(parts), tuple(map(list, parts)), parts[0],
                          tuple(part[::-1] for part in parts)):
                 if near != parts:
