@@ -28,6 +28,11 @@ def are_pulls(net, value):
     return all([is_fraction(pull) and pull[0] >= 0 for pull in value])
 
 
+def pull_the_same(one, other):
+    """Whether two rows of pulls pull just the same cords."""
+    return all([(a[0] > 0) == (b[0] > 0) for a, b in zip(one, other)])
+
+
 def is_step(value):
     """Whether any value is a step: a fraction above 0."""
     return is_fraction(value) and value[0] > 0

@@ -1,7 +1,7 @@
 """Lots: what stays together, and what stays in its place, in every way in which a net hangs."""
 
 from cordsatrest.balance import balance_at, bear_at, cords_between, group_numbers, most_pulls
-from cordsatrest.checks import are_moves, are_pulls, is_step
+from cordsatrest.checks import are_moves, are_pulls, is_step, pull_the_same
 from cordsatrest.errors import NoName, NoRing, NotHung
 from cordsatrest.hanging import hangs
 from cordsatrest.moves import are_shorter, best_step, moves_just, spread_out
@@ -55,14 +55,12 @@ def balance_in_round(net, number, parts, pulls):
     return balance_at(net, pulls, parts[1:])
 
 
-def is_like_lot_round(told, value, net):
+def is_like_lot_round(net, told, value):
     """Whether any value tells the lots of this round, with pulls that pull just its cords."""
     if not isinstance(value, tuple) or len(value) != 2:
         return False
     pulls, parts = value
-    if not are_pulls(net, pulls) or parts != told[1]:
-        return False
-    return all([(own[0] > 0) == (pull[0] > 0) for own, pull in zip(told[0], pulls)])
+    return are_pulls(net, pulls) and parts == told[1] and pull_the_same(told[0], pulls)
 
 
 def shows_lot_rounds(net, value):
@@ -72,7 +70,7 @@ def shows_lot_rounds(net, value):
         return False
     parts = first_lots(net)
     for number, told in enumerate(own):
-        if not is_like_lot_round(told, value[number], net):
+        if not is_like_lot_round(net, told, value[number]):
             return False
         if not balance_in_round(net, number, parts, value[number][0]):
             return False

@@ -1,7 +1,7 @@
 """Pulls: what they leave over at rings, and those that balance without weights beside held names."""
 
 from cordsatrest.balance import balance_at, borne_at, column_at, drawn_at, free_cords, most_pulls, pulls_for, singles
-from cordsatrest.checks import are_pulls
+from cordsatrest.checks import are_pulls, pull_the_same
 from cordsatrest.cones import lowered
 from cordsatrest.edges import edges
 from cordsatrest.errors import BadHeld, BadPulls, BadWeighed, TooWide
@@ -44,8 +44,7 @@ def shows_pulled(net, held, value):
     own = pulled(net, held)
     if not are_pulls(net, value):
         return False
-    alike_pulled = [(pull[0] > 0) == (one[0] > 0) for pull, one in zip(own, value)]
-    return all(alike_pulled) and balance_at(net, value, singles(free_rings(net, held)))
+    return pull_the_same(own, value) and balance_at(net, value, singles(free_rings(net, held)))
 
 
 def least_rows(net, held):

@@ -1,7 +1,7 @@
 """Rounds: which rings are where they are drawn in every placement, and how all others can be moved."""
 
 from cordsatrest.balance import balance_at, free_cords, most_pulls, singles
-from cordsatrest.checks import are_moves, are_pulls, is_step
+from cordsatrest.checks import are_moves, are_pulls, is_step, pull_the_same
 from cordsatrest.errors import NoCord, NoRing
 from cordsatrest.moves import are_shorter, best_step, moves_just, spread_out
 from cordsatrest.nets import cords_at, is_cord, is_ring
@@ -32,8 +32,7 @@ def is_like_round(net, free, told, value):
     pulls, rings = value
     if not isinstance(rings, tuple) or rings != told[1] or not are_pulls(net, pulls):
         return False
-    alike_pulled = [(own[0] > 0) == (pull[0] > 0) for own, pull in zip(told[0], pulls)]
-    return all(alike_pulled) and balance_at(net, pulls, singles(free))
+    return pull_the_same(told[0], pulls) and balance_at(net, pulls, singles(free))
 
 
 def shows_rounds(net, value):
