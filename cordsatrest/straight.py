@@ -2,7 +2,7 @@
 
 from cordsatrest.errors import BadWay, NoLine, NoRing
 from cordsatrest.hanging import does_hang, hangs
-from cordsatrest.nets import is_name_of, is_ring, place_of, weight_of
+from cordsatrest.nets import is_ring, place_of, weight_of
 from cordsatrest.ratios import NOUGHT, ONE, divided, is_less, minus, plus
 
 
@@ -53,12 +53,11 @@ def rising(net, ring):
 
 def is_way(net, value):
     """Whether any value is a rising way of the net."""
-    if not isinstance(value, tuple) or len(value) < 3 or not all([is_name_of(net, name) for name in value]):
-        return False
-    if value[0] in net.rings or value[-1] in net.rings or not all([is_ring(net, name) for name in value[1:-1]]):
+    if not isinstance(value, tuple) or len(value) < 3 or value[0] not in net.pegs or value[-1] not in net.pegs:
         return False
     pairs = rising_cords(net)
-    return all([pair in pairs for pair in zip(value, value[1:])])
+    between = all([name in net.rings for name in value[1:-1]])
+    return between and all([pair in pairs for pair in zip(value, value[1:])])
 
 
 def shows_rising(net, ring, value):
@@ -122,6 +121,7 @@ def shows_heavy(net, value):
     if not isinstance(value, tuple) or len(value) != 2 or value[0] not in ("down", "up"):
         return False
     side, rings = value
-    if not isinstance(rings, tuple) or not rings or rings != tuple([ring for ring in net.rings if ring in rings]):
+    if not isinstance(rings, tuple) or rings != tuple([ring for ring in net.rings if ring in rings]):
         return False
+    # no rings at all are never heavy
     return are_heavy(net, side, rings)

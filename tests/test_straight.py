@@ -220,10 +220,19 @@ class TestHeavy(unittest.TestCase):
         ]:
             with self.subTest(value=value):
                 self.assertIs(shows_heavy(net, value), False)
+        light = Net(PILE.text.replace('ring t -1 0', 'ring t -1 1'))
+        self.assertIs(shows_heavy(light, ('up', ('r',))), False)
+        self.assertIs(shows_heavy(light, ('up', ('t',))), True)
+        light = Net(PILE.text.replace('peg a 0', 'peg a 1/2').replace('cord a r', 'cord t r'))
+        self.assertIs(shows_heavy(light, ('up', ('r', 't'))), True)
+        for word in ('Up', 'down', 'ups', '', None, True, ('up',), ['up'], 'upward'):
+            self.assertIs(shows_heavy(light, (word, ('r', 't'))), False)
         for value in odd_values():
             self.assertIs(shows_heavy(net, value), False)
             self.assertIs(shows_heavy(net, ('down', value)), False)
+            self.assertIs(shows_heavy(net, ('up', value)), False)
             self.assertIs(shows_heavy(net, (value, ('s',))), False)
+            self.assertIs(shows_heavy(light, (value, ('r', 't'))), False)
 
 
 class TestNoLine(unittest.TestCase):
