@@ -44,6 +44,11 @@ def is_cord(net, value):
     return is_integer(value) and 0 <= value < len(net.cords)
 
 
+def is_peg(net, value):
+    """Whether any value is the name of a peg."""
+    return isinstance(value, str) and value in net.pegs
+
+
 def is_ring(net, value):
     """Whether any value is the name of a ring."""
     return isinstance(value, str) and value in net.rings
@@ -74,6 +79,17 @@ def square_of(net, cord):
         raise NoCord(cord)
     one, other = net.cords[cord]
     return square(row_less(place_of(net, one), place_of(net, other)))
+
+
+def far_end(net, cord, name):
+    """The other end of a cord, seen from this end."""
+    one, other = net.cords[cord]
+    return other if name == one else one
+
+
+def are_tied(net, one, other):
+    """Whether a cord has these two ends, in whichever sequence."""
+    return (one, other) in net.cords or (other, one) in net.cords
 
 
 def cords_at(net, name):

@@ -109,6 +109,11 @@ def square(row):
     return row_product(row, row)
 
 
+def factor_between(row, unit):
+    """How many times another row, that is not noughts alone, a row is."""
+    return divided(row_product(row, unit), square(unit))
+
+
 def whole(row):
     """(integers, factor): the fractions of a row times the least whole factor that leaves no bottoms."""
     factor = 1
