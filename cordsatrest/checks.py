@@ -1,8 +1,14 @@
 """What a tuple of rows or of pulls for a net must be like."""
 
 from cordsatrest.ratios import is_fraction, is_row
+from cordsatrest.words import fits
 
 MOST_COORDS = 12
+
+
+def is_written_row(net, value):
+    """Whether any value is a row with as many fractions as the net has coordinates, all of which its text can have."""
+    return is_row(value, net.coords) and all([fits(part) for part in value])
 
 
 def are_moves(net, value):

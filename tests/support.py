@@ -6,6 +6,8 @@ from functools import lru_cache
 from itertools import combinations
 from math import lcm
 
+from cordsatrest.bench import Bench
+from cordsatrest.desk import Desk
 from cordsatrest.errors import RestError
 from cordsatrest.nets import Net
 
@@ -32,7 +34,8 @@ def odd_values():
     return [
         None, True, False, -1, 20, 10 ** 12 - 1, '', 'Q', 'zzzzzz', 'toolong', '0', '1/2', 'q ', [], [0], ['q'], {},
         {'q': 1}, Net('net 1\npeg a 0\nring q 1 0\ncord a q'), (None,), ('q',), (('q',),), (0,), (True, 1), ([],),
-        ({},), (Net('net 1\npeg a 0'),), nested(30),
+        ({},), (Net('net 1\npeg a 0'),), nested(30), Bench(Net('net 1\npeg a 0')), Desk('bench\nnet 1\npeg a 0'),
+        (Bench(Net('net 1\npeg a 0')), Desk('bench\nnet 1\npeg a 0')),
     ]
 
 

@@ -4,10 +4,16 @@ import inspect
 import unittest
 from fractions import Fraction
 
-from cordsatrest import broken, hanging, lots, nets, placements, pulls, rounds, settled, straight, strays, weighing
+from cordsatrest import (
+    bench, broken, changes, desk, flat, hanging, journals, lots, near, nets, placements, pulls, roofs, rounds, seconds, settled,
+    straight, strays, weighing,
+)
+from cordsatrest.bench import Bench
+from cordsatrest.desk import Desk
 from cordsatrest.errors import RestError
 from cordsatrest.nets import Net
 from cordsatrest.placements import mixture, moved, picture
+from flats import CROSS, LOOSE, TENT, creased_flats, full_flats, random_flats
 from support import NONE, ONE, bound_net, grid_net, hung_nets, nested, net_of, random_nets, told
 
 INTERFACE = {
@@ -39,7 +45,32 @@ INTERFACE = {
     },
     settled: {'settled_places': 'net pulls', 'settled': 'net pulls', 'strain': 'net pulls rows'},
     broken: {'without': 'net cord', 'needed': 'net ring', 'lasting': 'net', 'spare': 'net', 'bare': 'net'},
+    changes: {
+        'cut_off': 'net', 'left_out': 'net ring', 'mapped': 'net table', 'shadow': 'net kept', 'joined': 'net other',
+    },
+    flat: {
+        'is_flat': 'net', 'rim': 'net', 'lands': 'net', 'sides': 'net', 'lands_at': 'net spot', 'is_stress': 'net value',
+        'stress_basis': 'net',
+    },
+    roofs: {
+        'is_roof': 'net value', 'roof_of': 'net stress', 'stress_of': 'net roof', 'height': 'net roof spot',
+        'bulges': 'net roof', 'creases': 'net', 'shows_creases': 'net value',
+    },
+    seconds: {'is_second': 'net value', 'second_of': 'net stress', 'stress_by': 'net second', 'roof_by': 'net second'},
+    near: {'are_sites': 'net value', 'sites_of': 'net stress', 'stress_from': 'net sites', 'nearest': 'net sites spot'},
 }
+METHODS = {
+    Bench: {
+        '__init__': 'net', 'tie': 'one other', 'cut': 'cord', 'move': 'ring place', 'weigh': 'ring weight', 'pin': 'ring',
+        'free': 'peg', 'undo': '', 'redo': '', 'trial': '', 'keep': '', 'tried': 'look keep', 'copy': '',
+    },
+    Desk: {'__init__': 'text', 'say': 'line'},
+    Net: {'__init__': 'text'},
+}
+
+
+# what calls raise whatever value is handed in
+ERRORS_OF_NETS = [('NotHung', None), ('NotFlat', None)]
 
 
 def calls(net):
@@ -56,7 +87,8 @@ def calls(net):
     found += [(rounds.shows_rounds, (rounds.rounds(net),)), (rounds.shows_rounds, ([{'a': [1]}],))]
     found += [(rounds.round_of, (ring,)), (rounds.alike, (0,)), (rounds.loosening, ())]
     found += [(rounds.shows_loosening, (rounds.loosening(net),)), (rounds.shows_loosening, ([moves, {}],))]
-    return found + calls_of_pulls(net) + calls_of_hanging(net) + calls_of_lines(net) + calls_of_pictures(net)
+    found += calls_of_pulls(net) + calls_of_hanging(net) + calls_of_lines(net) + calls_of_pictures(net)
+    return found + calls_of_changes(net) + calls_of_flat(net)
 
 
 def calls_of_pulls(net):
@@ -101,6 +133,31 @@ def calls_of_pictures(net):
     return found + [(settled.settled_places, (ones,)), (settled.settled, (ones,)), (settled.strain, (ones, rows))]
 
 
+def calls_of_changes(net):
+    """As above, for nets made of nets."""
+    own = tuple(tuple(ONE if at == other else NONE for other in range(net.coords)) for at in range(net.coords))
+    found = [(changes.cut_off, ()), (changes.mapped, (own[::-1],)), (changes.mapped, (own + own[:1] * (3 - len(own)),))]
+    found += [(changes.mapped, (tuple(tuple((999, 7) if part == ONE else NONE for part in row) for row in own),))]
+    found += [(changes.shadow, (kept,)) for kept in ((0,), (net.coords - 1,), tuple(range(net.coords)))]
+    return found + [(changes.left_out, (ring,)) for ring in net.rings] + [(changes.joined, (net,))]
+
+
+def calls_of_flat(net):
+    """As above, for flat nets: with what belongs to the net, if it is flat."""
+    calls_alone = (flat.is_flat, flat.rim, flat.lands, flat.sides, flat.stress_basis, roofs.creases)
+    stress, roof, second, sites, spot = (ONE,), (), (NONE,), (), (NONE, NONE)
+    if flat.is_flat(net):
+        pulled = pulls.pulled(net, ())
+        stress, roof, second = pulled, roofs.roof_of(net, pulled), seconds.second_of(net, pulled)
+        sites, spot = answer_of(near.sites_of, net, pulled), nets.place_of(net, net.rings[0])
+    found = [(call, ()) for call in calls_alone] + [(flat.lands_at, (spot,)), (flat.is_stress, (stress,))]
+    found += [(flat.is_stress, ([{}],)), (roofs.roof_of, (stress,)), (seconds.second_of, (stress,)), (near.sites_of, (stress,))]
+    found += [(call, (roof,)) for call in (roofs.is_roof, roofs.stress_of, roofs.bulges)] + [(roofs.height, (roof, spot))]
+    found += [(roofs.shows_creases, (value,)) for value in (answer_of(roofs.creases, net), [{}])]
+    found += [(call, (second,)) for call in (seconds.is_second, seconds.stress_by, seconds.roof_by)]
+    return found + [(near.are_sites, (sites,)), (near.stress_from, (sites,)), (near.nearest, (sites, spot))]
+
+
 def answer_of(call, *args, **named):
     """What a call tells, or the error that it raises with its value; a net by its text."""
     try:
@@ -113,6 +170,7 @@ def answer_of(call, *args, **named):
 def some_nets():
     """Nets with a ring and a cord, some that hang, six of them at their bounds."""
     plain = [net for net in random_nets(12) + hung_nets(12) if net.cords]
+    plain += [TENT, LOOSE, CROSS] + random_flats(8) + creased_flats(6) + full_flats()
     return plain + [make(coords) for coords in (1, 2, 3) for make in (bound_net, grid_net)]
 
 
@@ -143,7 +201,23 @@ class TestCalls(unittest.TestCase):
                 with self.subTest(name):
                     self.assertEqual(list(inspect.signature(getattr(module, name)).parameters), words.split())
                     self.assertEqual(getattr(module, name).__module__, module.__name__)
-        self.assertEqual(list(inspect.signature(Net).parameters), ['text'])
+        for name, words in (('journal', 'bench'), ('read_journal', 'text')):
+            self.assertEqual(list(inspect.signature(getattr(journals, name)).parameters), words.split())
+            self.assertEqual(getattr(journals, name).__module__, journals.__name__)
+
+    def test_methods(self):
+        for kind, names in METHODS.items():
+            for name, words in names.items():
+                self.assertEqual(list(inspect.signature(vars(kind)[name]).parameters)[1:], words.split())
+        keep = inspect.signature(Bench.tried).parameters['keep']
+        self.assertEqual((keep.kind, keep.default), (keep.KEYWORD_ONLY, False))
+        self.assertEqual((Bench.__module__, Desk.__module__, Net.__module__), (bench.__name__, desk.__name__, nets.__name__))
+
+    def test_attributes_are_set_when_objects_are_created(self):
+        net = grid_net(2)
+        self.assertLessEqual({'text', 'coords', 'pegs', 'rings', 'cords'}, set(vars(net)))
+        self.assertLessEqual({'net', 'first', 'done'}, set(vars(Bench(net))))
+        self.assertIn('bench', vars(Desk('bench\n' + net.text)))
 
     def test_by_position_and_by_name(self):
         for net in some_nets():
@@ -180,7 +254,10 @@ class TestCalls(unittest.TestCase):
                 words = INTERFACE[inspect.getmodule(call)][call.__name__].split()[1:]
                 for at, word in enumerate(words):
                     wrong = args[:at] + (nested(30),) + args[at + 1:]
-                    if word != 'value' or answer_of(call, net, *args) in (('NotHung', None), ('NoLine', net.coords)):
+                    # this one is a Net, as net is
+                    if word == 'other' and call is changes.joined:
+                        continue
+                    if word != 'value' or answer_of(call, net, *args) in ERRORS_OF_NETS + [('NoLine', net.coords)]:
                         self.assertRaises(RestError, call, net, *wrong)
                     else:
                         self.assertIs(call(net, *wrong), False)
@@ -212,7 +289,7 @@ class TestCalls(unittest.TestCase):
             for call, args in calls(net):
                 answer = answer_of(call, net, *args)
                 # these tell numbers, no fractions
-                if call not in (nets.cords_at, broken.needed, broken.spare):
+                if call not in (nets.cords_at, broken.needed, broken.spare, flat.sides, flat.lands_at, near.nearest):
                     for top, bottom in pairs_in(answer):
                         self.assertEqual((top, bottom), told(Fraction(top, bottom)))
 

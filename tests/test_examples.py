@@ -175,6 +175,106 @@ BROKEN = r"""
 [(), ('r',), (0, 1, 2, 3), (('n', 'r'), ('s', 'r'))]
 """
 
+CHANGES = r"""
+>>> from cordsatrest.changes import cut_off, joined, left_out, mapped, shadow
+>>> from cordsatrest.nets import Net
+>>> from cordsatrest.rounds import held
+>>> net = Net('net 2\npeg a 0 0\npeg b 4 0\nring m 2 0 0 -1\nring s 2 -2 0 -1\ncord a m\ncord b m\ncord m s')
+>>> cut_off(net).text.split('\n')
+['net 2', 'peg a 0 0', 'peg b 4 0', 'peg m 2 0', 'ring s 2 -2 0 -1', 'cord m s']
+>>> line = Net('net 2\npeg a 0 0\npeg c 0 6\nring r 0 2 0 0\nring t 0 3 1 0\ncord t c\ncord a r\ncord r t')
+>>> left_out(line, 'r').text.split('\n')
+['net 2', 'peg a 0 0', 'peg c 0 6', 'ring t 0 3 1 0', 'cord t c', 'cord a t']
+>>> flat = Net('net 1\npeg a 0\npeg b 4\nring r 1 1/2\ncord a r\ncord r b')
+>>> wide = mapped(flat, (((1, 1),), ((-2, 1),)))
+>>> [wide.text.split('\n')[2:4], shadow(wide, (0,)) == flat, shadow(wide, (1,)).text.split('\n')[1:4]]
+[['peg b 4 -8', 'ring r 1 -2 1/2 -1'], True, ['peg a 0', 'peg b -8', 'ring r -2 -1']]
+>>> one = Net('net 1\npeg a 0\npeg b 4\nring r 1 1\ncord a r')
+>>> other = Net('net 1\npeg a 0\npeg b 4\nring r 1 -3\ncord r b')
+>>> [held(one), held(other), joined(one, other).text.split('\n')[3:], held(joined(one, other))]
+[(), (), ['ring r 1 -2', 'cord a r', 'cord r b'], ('r',)]
+"""
+
+FLAT = r"""
+>>> from cordsatrest.flat import is_flat, is_stress, lands, lands_at, rim, sides, stress_basis
+>>> from cordsatrest.nets import Net
+>>> net = Net('net 2\npeg a 0 0\npeg b 4 0\npeg c 0 4\nring m 1 1 0 0\ncord a m\ncord b m\ncord c m')
+>>> [is_flat(net), rim(net), lands(net)]
+[True, ('a', 'b', 'c'), (('a', 'b', 'm'), ('a', 'm', 'c'), ('b', 'c', 'm'))]
+>>> [sides(net), lands_at(net, ((1, 1), (1, 1))), lands_at(net, ((2, 1), (1, 3))), lands_at(net, ((2, 1), (2, 1))), lands_at(net, ((4, 1), (4, 1)))]
+[((1, 0), (0, 2), (2, 1)), (0, 1, 2), (0,), (2,), ()]
+>>> [stress_basis(net), is_stress(net, ((2, 1), (1, 1), (1, 1))), is_stress(net, ((-2, 1), (-1, 1), (-1, 1))), is_stress(net, ((1, 1), (1, 1), (1, 1)))]
+[(((1, 1), (1, 2), (1, 2)),), True, True, False]
+>>> loose = Net('net 2\npeg a 0 0\npeg b 4 0\npeg c 0 4\nring m 1 1 0 0\nring n 1 2 0 0\ncord a m\ncord b m\ncord m n')
+>>> [lands(loose), sides(loose), stress_basis(loose)]
+[(('a', 'b', 'm'), ('a', 'm', 'n', 'm', 'b', 'c')), ((1, 0), (0, 1), (1, 1)), ()]
+"""
+
+ROOFS = r"""
+>>> from cordsatrest.nets import Net
+>>> from cordsatrest.roofs import bulges, creases, height, is_roof, roof_of, shows_creases, stress_of
+>>> net = Net('net 2\npeg a 0 0\npeg b 4 0\npeg c 0 4\nring m 1 1 0 0\ncord a m\ncord b m\ncord c m')
+>>> tent = roof_of(net, ((2, 1), (1, 1), (1, 1)))
+>>> tent
+(((0, 1), (0, 1), (0, 1)), ((2, 1), (-2, 1), (0, 1)), ((-1, 1), (-3, 1), (4, 1)))
+>>> [stress_of(net, tent), height(net, tent, ((1, 1), (1, 1))), height(net, tent, ((0, 1), (4, 1))), height(net, tent, ((2, 1), (2, 1)))]
+[((2, 1), (1, 1), (1, 1)), (0, 1), (-8, 1), (-4, 1)]
+>>> [bulges(net, tent), bulges(net, roof_of(net, ((-2, 1), (-1, 1), (-1, 1)))), is_roof(net, tent[::-1])]
+[('bulges',), ('dents', 0), False]
+>>> [shows_creases(net, ('roof', tent)), shows_creases(net, ('slack', (((0, 1), (0, 1)),)))]
+[True, False]
+>>> corner = Net('net 2\npeg a 0 0\npeg b 4 0\npeg c 0 4\nring m 1 1 0 0\ncord a m\ncord b m')
+>>> [creases(corner)[0], shows_creases(corner, ('slack', (((0, 1), (-1, 1)),))), shows_creases(corner, ('slack', (((1, 1), (-1, 1)),)))]
+['slack', True, True]
+"""
+
+SECONDS_AND_SITES = r"""
+>>> from cordsatrest.near import are_sites, nearest, sites_of, stress_from
+>>> from cordsatrest.nets import Net
+>>> from cordsatrest.seconds import is_second, roof_by, second_of, stress_by
+>>> net = Net('net 2\npeg a 0 0\npeg b 4 0\npeg c 0 4\nring m 1 1 0 0\ncord a m\ncord b m\ncord c m')
+>>> stress = ((2, 1), (1, 1), (1, 1))
+>>> [second_of(net, stress), stress_by(net, second_of(net, stress)), is_second(net, (((0, 1), (0, 1)), ((0, 1), (2, 1)), ((1, 1), (3, 1))))]
+[(((0, 1), (0, 1)), ((-2, 1), (2, 1)), ((1, 1), (3, 1))), ((2, 1), (1, 1), (1, 1)), False]
+>>> roof_by(net, (((1, 1), (0, 1)), ((-1, 1), (2, 1)), ((2, 1), (3, 1))))
+(((-1, 1), (0, 1), (0, 1)), ((1, 1), (-2, 1), (0, 1)), ((-2, 1), (-3, 1), (4, 1)))
+>>> told = sites_of(net, stress)
+>>> told
+(((0, 1), (0, 1), (0, 1)), ((-1, 1), (1, 1), (2, 1)), ((1, 2), (3, 2), (-3, 2)))
+>>> [are_sites(net, told), stress_from(net, told), nearest(net, told, ((1, 1), (1, 1))), nearest(net, told, ((2, 1), (2, 1)))]
+[True, ((2, 1), (1, 1), (1, 1)), (0, 1, 2), (2,)]
+>>> are_sites(net, (((0, 1), (0, 1), (0, 1)), ((-1, 1), (1, 1), (2, 1)), ((1, 2), (3, 2), (0, 1))))
+False
+"""
+
+BENCH = r"""
+>>> from cordsatrest.bench import Bench
+>>> from cordsatrest.nets import Net
+>>> rows = ['net 2', 'peg a 0 0', 'peg b 4 0', 'peg c 2 4', 'ring m 2 0 0 0', 'ring k 2 2 0 0', 'cord a m', 'cord c k', 'cord k m']
+>>> bench = Bench(Net('\n'.join(rows)))
+>>> [bench.tie('b', 'm'), bench.cut(1), bench.undo(), bench.move('k', ((2, 1), (1, 1))), bench.move('k', ((3, 1), (1, 1))), bench.done]
+[(('m', 'k'), ()), ((), ('k',)), None, ((), ()), ((), ('k',)), 3]
+>>> [bench.pin('k'), bench.net.pegs, bench.net.cords, bench.undo(), bench.undo(), bench.free('c'), bench.net.rings]
+[(('k',), ()), ('a', 'b', 'c', 'k'), (('a', 'm'), ('k', 'm'), ('b', 'm')), None, None, ((), ('c', 'k')), ('m', 'k', 'c')]
+>>> [bench.tried(lambda held: held.weigh('m', ((0, 1), (-3, 1)))), bench.done, bench.copy() == bench, bench.undo(), bench.redo(), bench.done]
+[((), ()), 3, True, None, None, 3]
+"""
+
+JOURNALS = r"""
+>>> from cordsatrest.desk import Desk
+>>> from cordsatrest.journals import journal, read_journal
+>>> rows = ['bench', 'net 2', 'peg a 0 0', 'peg b 4 0', 'ring m 2 0 0 -1', 'ring s 2 -2 0 -1', 'cord a m', 'cord m s', 'tie b m']
+>>> desk = Desk('\n'.join(rows))
+>>> [desk.say(words) for words in ('held', 'round m', 'round s', 'hangs', 'lots', 'stays s', 'needed m', 'spare')]
+['m', '1', '-', 'yes', 'a b m s', 'yes', '0 2', '1']
+>>> [desk.say(words) for words in ('weigh s 0 1', 'hangs', 'cut 0', 'undo', 'undo', 'pin s', 'net')]
+['come -; gone -', 'no', 'come -; gone m', 'ok', 'ok', 'come s; gone -', 'net 2; peg a 0 0; peg b 4 0; peg s 2 -2; ring m 2 0 0 -1; cord a m; cord m s; cord b m']
+>>> journal(desk.bench).split('\n')[8:]
+['tie b m', 'pin s']
+>>> [read_journal(journal(desk.bench)) == desk.bench, read_journal('\n'.join(rows + ['move s 1 1/2'])).net.text.split('\n')[4]]
+[True, 'ring s 1 1/2 0 -1']
+"""
+
 
 class TestExamples(unittest.TestCase):
     def check(self, name, text):
@@ -219,6 +319,24 @@ class TestExamples(unittest.TestCase):
 
     def test_broken(self):
         self.check('broken', BROKEN)
+
+    def test_changes(self):
+        self.check('changes', CHANGES)
+
+    def test_flat(self):
+        self.check('flat', FLAT)
+
+    def test_roofs(self):
+        self.check('roofs', ROOFS)
+
+    def test_seconds_and_sites(self):
+        self.check('seconds_and_sites', SECONDS_AND_SITES)
+
+    def test_bench(self):
+        self.check('bench', BENCH)
+
+    def test_journals(self):
+        self.check('journals', JOURNALS)
 
     def test_readme(self):
         with open(README, encoding='utf-8') as file:

@@ -8,10 +8,17 @@ import cordsatrest
 
 FOLDER = os.path.dirname(cordsatrest.__file__)
 DEFINED = {
-    'errors.py': 'RestError BadNet NoName NoCord BadPlacement BadShare BadMoves BadStep BadPulls NoRing BadWords',
+    'errors.py': (
+        'RestError BadNet NoName NoCord BadPlacement BadShare BadMoves BadStep BadPulls BadWeighed BadHeld '
+        'TooWide NoRing NotHung NotBalanced BadRows BadMore BadLack BadDirection NoLine BadWay Adrift TooFine '
+        'Met NotHeld Beyond TooMany Weighed NotStraight Tied BadTable BadKept Together Unlike NotFlat BadSpot '
+        'BadStress BadRoof BadSecond BadSites BadPlace BadWeight NoPeg Last NothingToUndo NothingToRedo '
+        'NoTrial BadJournal BadWords'
+    ),
     'nets.py': 'Net place_of weight_of square_of cords_at',
     'placements.py': 'picture is_placement lets score between mixture moved',
     'pulls.py': 'left_over pulled shows_pulled least_rows',
+    'rounds.py': 'rounds shows_rounds held round_of alike loosening shows_loosening further',
     'hanging.py': 'hangs shows_hangs does_hang lower',
     'lots.py': 'lot_rounds shows_lot_rounds lots lot_round does_stay apart shows_apart other_hanging',
     'strays.py': 'bend resistance stray score_above',
@@ -19,7 +26,19 @@ DEFINED = {
     'straight.py': 'rising shows_rising way_pulls heavy shows_heavy',
     'settled.py': 'settled_places settled strain',
     'broken.py': 'without needed lasting spare bare',
-    'rounds.py': 'rounds shows_rounds held round_of alike loosening shows_loosening further',
+    'changes.py': 'cut_off left_out mapped shadow joined',
+    'flat.py': 'is_flat rim lands sides lands_at is_stress stress_basis',
+    'roofs.py': 'is_roof roof_of stress_of height bulges creases shows_creases',
+    'seconds.py': 'is_second second_of stress_by roof_by',
+    'near.py': 'are_sites sites_of stress_from nearest',
+    'bench.py': 'Bench',
+    'journals.py': 'journal read_journal',
+    'desk.py': 'Desk',
+}
+METHODS = {
+    'nets.py': ('Net', '__init__ __len__ __eq__'),
+    'bench.py': ('Bench', '__init__ __eq__ tie cut move weigh pin free undo redo trial keep tried copy'),
+    'desk.py': ('Desk', '__init__ say'),
 }
 LIBRARY = {'math': {'gcd', 'lcm', 'isqrt', 'comb', 'perm', 'factorial'}}
 
@@ -42,9 +61,10 @@ class TestFiles(unittest.TestCase):
             self.assertLessEqual(set(words.split()), set(defined))
 
     def test_methods_stand_in_the_class(self):
-        tree = ast.parse(dict(files())['nets.py'])
-        body = [part for part in tree.body if isinstance(part, ast.ClassDef) and part.name == 'Net'][0].body
-        self.assertLessEqual({'__init__', '__len__', '__eq__'}, {part.name for part in body if hasattr(part, 'name')})
+        for name, (kind, words) in METHODS.items():
+            tree = ast.parse(dict(files())[name])
+            body = [part for part in tree.body if isinstance(part, ast.ClassDef) and part.name == kind][0].body
+            self.assertLessEqual(set(words.split()), {part.name for part in body if isinstance(part, ast.FunctionDef)})
 
     def test_size_and_characters(self):
         for name, text in files():
