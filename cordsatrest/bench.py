@@ -34,14 +34,9 @@ class Trial:
     def __init__(self, bench):
         self.bench = bench
         self.kept = None
-        self.outer = None
-        self.net = bench.net
-        self.done = bench.done
-        self.steps = bench._steps
 
     def __enter__(self):
         bench = self.bench
-        self.kept = None
         self.outer = bench._block
         self.net = bench.net
         self.done = bench.done

@@ -37,9 +37,7 @@ def comes_first(at, start, one, other):
     right, far_right = side(at, start, one) < 0, side(at, start, other) < 0
     if right != far_right:
         return right
-    straight, far_straight = side(at, start, one) == 0, side(at, start, other) == 0
-    if straight or far_straight:
-        return straight
+    # both lie within one half, so that less than half a turn parts them
     return side(at, one, other) < 0
 
 

@@ -56,6 +56,9 @@ NOT_FLAT = {
     'cords of rings that cross': SQUARE + [
         'ring r 2 2 0 0', 'ring s 4 4 0 0', 'ring t 2 4 0 0', 'ring u 4 2 0 0', 'cord r s', 'cord t u', 'cord a r', 'cord b u',
     ],
+    'cords that cross by little': SQUARE + [
+        'ring r 2 3 0 0', 'ring s 3 3 0 0', 'ring t 2 2 0 0', 'ring u 3 4 0 0', 'cord r s', 'cord t u', 'cord d r', 'cord a t',
+    ],
     'cords that touch': SQUARE + ['ring r 2 1 0 0', 'ring s 2 3 0 0', 'ring t 4 3 0 0', 'ring u 2 2 0 0',
                                   'cord r s', 'cord u t', 'cord a r', 'cord b t'],
     'cords that lie upon one another': SQUARE + ['ring r 1 1 0 0', 'ring s 2 2 0 0', 'cord a r', 'cord a s'],
@@ -75,6 +78,9 @@ FLAT = {
     'a ring close to the rim, aslant': TRIANGLE + ['ring r 119/60 2 5 -7', 'cord a r'],
     'a cord close to a ring': SQUARE + ['ring r 2 2 0 0', 'ring s 1 59/60 0 0', 'cord a r', 'cord b s'],
     'straight on': SQUARE + ['ring r 1 1 0 0', 'ring s 2 2 0 0', 'cord a r', 'cord r s'],
+    'straight on, by little': SQUARE + [
+        'ring r 1 1 0 0', 'ring s 5/2 1 0 0', 'ring t 3 1 0 0', 'cord a r', 'cord r s', 'cord s t',
+    ],
     'cords that would cross, were they longer': SQUARE + ['ring r 2 2 0 0', 'ring s 3 3 0 0', 'cord a r', 'cord s b', 'cord s d'],
 }
 
