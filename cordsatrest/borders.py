@@ -64,7 +64,8 @@ def least_beginning(walk):
 def walks(net):
     """The round walks of all lands, by numbers, ascending."""
     spots, beside, cords = spots_of(net), numbers_beside(net), cord_steps(net)
-    seen, found = set(), []
+    seen = set()
+    found = []
     # gone back along the rim is outside of all lands
     for first in cords + [contrary(step) for step in cords] + rim_steps(net):
         step, walk = first, []

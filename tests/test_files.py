@@ -100,6 +100,82 @@ class TestFiles(unittest.TestCase):
                     self.assertNotIsInstance(part, ast.Div)
                     self.assertFalse(isinstance(part, ast.Constant) and isinstance(part.value, float))
 
+    def test_sets_stand_where_they_may(self):
+        for name, text in files():
+            with self.subTest(name):
+                self.assertEqual(misplaced_sets(text), [])
+
+    def test_names_of_sets_are_given_once(self):
+        for name, text in files():
+            for part in ast.walk(ast.parse(text)):
+                if isinstance(part, ast.FunctionDef):
+                    with self.subTest(name=name, function=part.name):
+                        self.assertEqual(sets_given_again(part), [])
+
+    def test_misplaced_sets_are_found(self):
+        for line in (
+            'seen, found = set(), []', 'found, seen = [], {1, 2}', 'a, (b, c) = 1, ({x for x in xs}, 2)', 'a = b = set()',
+            '[a, b] = [set(xs), 0]', 'a, *b = set(xs), 1, 2', 'a, b = (set(), 1) if c else (2, 3)', 'for a, b in [(set(), 1)]: pass',
+            'rows = [set()]', 'seen: set = set()', 'box.seen = set()', 'seen = known or set()', 'seen = set(xs) | set(ys)', 'show(set())',
+            'seen |= {1}', 'for x in {1, 2}: pass', 'a = x in [{1}]', 'a = len([set()])', 'a = sorted(xs, b={1})',
+        ):
+            self.assertEqual(misplaced_sets('def call():\n    ' + line), [2])
+        for line in (
+            'seen = set()', 'a, b = len(set(xs)), sorted({1, 2})', 'a = x in {1, 2}, x not in {x for x in xs}', 'a = b = {}, []',
+            'a = set(xs) == set(ys)', 'a = x in set(xs) - set(ys) | {1}', 'a = len(set(xs) & set(ys))', 'a = sorted({1, 2}, reverse=True)',
+        ):
+            self.assertEqual(misplaced_sets('def call():\n    ' + line), [])
+
+    def test_sets_given_again_are_found(self):
+        for line in ('seen = []', 'seen += 1', 'seen: list = []', 'a, (*seen, b) = xs', 'for seen in xs: pass', 'del seen', 'a = (seen := 2)'):
+            for text in (line + '\n    seen = set()', 'seen = {x for x in xs}\n    ' + line):
+                self.assertEqual(sets_given_again(ast.parse('def call(xs):\n    ' + text).body[0]), ['seen'])
+        self.assertEqual(sets_given_again(ast.parse('def call(seen):\n    seen = set()').body[0]), ['seen'])
+        self.assertEqual(sets_given_again(ast.parse('def call(xs):\n    seen = set()\n    seen.add(1)').body[0]), [])
+
+
+def is_set(part):
+    """Whether a part of a file makes a set; one made of several sets by signs counts, too."""
+    if isinstance(part, ast.BinOp):
+        return is_set(part.left) or is_set(part.right)
+    called = isinstance(part, ast.Call) and isinstance(part.func, ast.Name) and part.func.id in ('set', 'frozenset')
+    return called or isinstance(part, (ast.Set, ast.SetComp))
+
+
+def may_have(part, child):
+    """Whether a set may stand as this child of this part (L24): stored, compared or measured, sorted, or joined."""
+    if isinstance(part, ast.Assign):
+        return len(part.targets) == 1 and isinstance(part.targets[0], ast.Name) and not isinstance(child, ast.BinOp)
+    if isinstance(part, ast.Compare):
+        beside = child in part.comparators and isinstance(part.ops[0], (ast.In, ast.NotIn))
+        return len(part.ops) == 1 and (beside or isinstance(part.ops[0], (ast.Eq, ast.NotEq)))
+    if isinstance(part, ast.Call):
+        return isinstance(part.func, ast.Name) and part.func.id in ('len', 'sorted') and child in part.args
+    return isinstance(part, ast.BinOp)
+
+
+def misplaced_sets(text):
+    """The numbers of the lines with a set where none may stand: so also those that give several names at once."""
+    found = []
+    for part in ast.walk(ast.parse(text)):
+        for child in ast.iter_child_nodes(part):
+            if is_set(child) and not may_have(part, child):
+                found.append(child.lineno)
+    return sorted(found)
+
+
+def sets_given_again(function):
+    """The names of a function that are given a set, and anything else besides, or that twice."""
+    stored, given = set(), []
+    for part in ast.walk(function):
+        if isinstance(part, ast.Assign) and is_set(part.value):
+            stored.update(target.id for target in part.targets if isinstance(target, ast.Name))
+        if isinstance(part, ast.Name) and not isinstance(part.ctx, ast.Load):
+            given.append(part.id)
+        elif isinstance(part, ast.arg):
+            given.append(part.arg)
+    return sorted(name for name in stored if given.count(name) > 1)
+
 
 def bound_in(text):
     """The names that a file defines itself."""
