@@ -1,34 +1,24 @@
-"""Borders: how a flat net's cords and the sides of its rim cut it into lands.
+"""Borders: how a flat net's cords and the sides of its rim cut it into lands. Numbers and steps are those of charts."""
 
-Pegs and rings go by their numbers here: as they stand, pegs first. A step goes from one number to another one,
-along a cord or a side of the rim.
-"""
-
-from cordsatrest.nets import place_of
-from cordsatrest.plane import comes_first, corners_round
-from cordsatrest.ratios import row_less, row_sum
+from cordsatrest.charts import spot_on, steps_in
+from cordsatrest.plane import lies_on, put_round, side, way_between
 
 
-def spots_of(net):
-    """The place of each peg and ring."""
-    return [place_of(net, name) for name in net.pegs + net.rings]
+class Lands:
+    """The lands of a flat net, on its chart.
 
+    Walks are their round walks, by numbers, ascending; left: the number of the land at the left of each step;
+    pairs: for each cord the numbers of the lands at its left and at its right.
+    """
 
-def rim_numbers(net):
-    """The numbers of the pegs, against the clock from the first one on; None if one of them is no corner."""
-    return corners_round(spots_of(net)[:len(net.pegs)])
-
-
-def rim_steps(net):
-    """The steps along the rim, against the clock."""
-    numbers = rim_numbers(net)
-    return list(zip(numbers, numbers[1:] + numbers[:1]))
-
-
-def cord_steps(net):
-    """For each cord the step from the end that is named first to the other one."""
-    names = net.pegs + net.rings
-    return [(names.index(one), names.index(other)) for one, other in net.cords]
+    def __init__(self, chart):
+        self.chart = chart
+        self.walks = walks_on(chart)
+        self.left = {}
+        for number, walk in enumerate(self.walks):
+            for step in steps_in(walk):
+                self.left[step] = number
+        self.pairs = [(self.left[step], self.left[contrary(step)]) for step in chart.steps]
 
 
 def contrary(step):
@@ -36,73 +26,81 @@ def contrary(step):
     return (step[1], step[0])
 
 
-def numbers_beside(net):
-    """For each number the list of those to which a step leads from it."""
-    found = [[] for _ in net.pegs + net.rings]
-    for one, other in cord_steps(net) + rim_steps(net):
-        found[one].append(other)
-        found[other].append(one)
+def steps_after(chart, steps):
+    """For each step, and each one gone back, the one that goes on with the same land at the left.
+
+    This is the sharpest turn to the left: to the next way back with the clock.
+    """
+    rows = [[] for _ in chart.spots]
+    for one, other in steps + [contrary(step) for step in steps]:
+        put_round(rows[one], way_between(chart.spots[one], chart.spots[other]), other)
+    found = {}
+    for at, row in enumerate(rows):
+        for place, (_, number) in enumerate(row):
+            found[(number, at)] = (at, row[place - 1][1])
     return found
-
-
-def step_on(spots, beside, step):
-    """The step that goes on from the end of a step, with the same land at the left: the sharpest turn to the left."""
-    start, at = step
-    found = start
-    for number in beside[at]:
-        if number != start:
-            if found == start or comes_first(spots[at], spots[start], spots[number], spots[found]):
-                found = number
-    return (at, found)
 
 
 def least_beginning(walk):
     """The walk as a tuple, from that beginning on with which it is the least one."""
-    return min([tuple(walk[at:] + walk[:at]) for at in range(len(walk))])
+    least = min(walk)
+    return min([tuple(walk[at:] + walk[:at]) for at, number in enumerate(walk) if number == least])
 
 
-def walks(net):
+def walks_on(chart):
     """The round walks of all lands, by numbers, ascending."""
-    spots, beside, cords = spots_of(net), numbers_beside(net), cord_steps(net)
+    rim = steps_in(chart.rim)
+    after = steps_after(chart, chart.steps + rim)
     seen = set()
     found = []
     # gone back along the rim is outside of all lands
-    for first in cords + [contrary(step) for step in cords] + rim_steps(net):
+    for first in chart.steps + [contrary(step) for step in chart.steps] + rim:
         step, walk = first, []
         while step not in seen:
             seen.add(step)
             walk.append(step[0])
-            step = step_on(spots, beside, step)
+            step = after[step]
         if walk:
             found.append(least_beginning(walk))
     return sorted(found)
 
 
-def steps_in(walk):
-    """The steps of a round walk."""
-    return list(zip(walk, walk[1:] + walk[:1]))
+def turn_at(one, other, spot):
+    """What a way from one spot to the other, on which a spot does not lie, adds to how often a walk leads around it."""
+    low, high = one[1] <= spot[1], other[1] <= spot[1]
+    if low and not high and side(one, other, spot) > 0:
+        return 1
+    return -1 if high and not low and side(one, other, spot) < 0 else 0
 
 
-def land_pairs(net):
-    """For each cord the numbers of the lands at its left and at its right."""
-    lands = {}
-    for number, walk in enumerate(walks(net)):
-        for step in steps_in(walk):
-            lands[step] = number
-    return [(lands[step], lands[contrary(step)]) for step in cord_steps(net)]
+def lands_round(lands, spot):
+    """The numbers of the lands in which a spot lies, or at whose border."""
+    here, spots = spot_on(lands.chart, spot)
+    turns, borders = [0] * len(lands.walks), {}
+    for (one, other), land in lands.left.items():
+        if lies_on(spots[one], spots[other], here):
+            borders[land] = True
+        else:
+            turns[land] += turn_at(spots[one], spots[other], here)
+    return tuple([land for land, turn in enumerate(turns) if turn > 0 or land in borders])
 
 
-def led_over(pairs, first, gains):
+def gaps_in(lands, rows):
+    """For each cord the row of the land at its right less that of the land at its left."""
+    return [[far - near for near, far in zip(rows[left], rows[right])] for left, right in lands.pairs]
+
+
+def led_over(lands, first, gains):
     """A row for each land, first for land 0: right of each cord it is what it is at the left, and the cord's gain.
 
     Cords lead from each land to each other one, as the rim is in one piece within.
     """
     found = {0: first}
-    # each time but the last one finds a land
-    for _ in pairs:
-        for (left, right), gain in zip(pairs, gains):
+    # each time finds a land
+    while len(found) < len(lands.walks):
+        for (left, right), gain in zip(lands.pairs, gains):
             if left in found and right not in found:
-                found[right] = row_sum(found[left], gain)
+                found[right] = [part + more for part, more in zip(found[left], gain)]
             elif right in found and left not in found:
-                found[left] = row_less(found[right], gain)
-    return tuple([found[land] for land in range(len(found))])
+                found[left] = [part - more for part, more in zip(found[right], gain)]
+    return [found[land] for land in range(len(found))]

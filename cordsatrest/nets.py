@@ -66,6 +66,11 @@ def place_of(net, name):
     return net._places[name]
 
 
+def places_of(net):
+    """The places of all pegs and rings, as they stand, pegs first."""
+    return [net._places[name] for name in net.pegs + net.rings]
+
+
 def weight_of(net, name):
     """The weight of a ring; noughts for a peg."""
     if not is_name_of(net, name):

@@ -109,14 +109,21 @@ def square(row):
     return row_product(row, row)
 
 
-def factor_between(row, unit):
-    """How many times another row, that is not noughts alone, a row is."""
-    return divided(row_product(row, unit), square(unit))
-
-
 def whole(row):
     """(integers, factor): the fractions of a row times the least whole factor that leaves no bottoms."""
     factor = 1
     for part in row:
         factor = lcm(factor, part[1])
     return [part[0] * (factor // part[1]) for part in row], factor
+
+
+def whole_rows(rows):
+    """(rows of integers, factor): as whole, with one factor for all these rows of as many fractions."""
+    parts, factor = whole([part for row in rows for part in row])
+    width = len(rows[0]) if rows else 1
+    return [tuple(parts[at:at + width]) for at in range(0, len(parts), width)], factor
+
+
+def ratio_rows(rows, bottom):
+    """The rows of integers, each of them divided by the bottom."""
+    return tuple([tuple([ratio(top, bottom) for top in row]) for row in rows])

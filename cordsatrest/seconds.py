@@ -1,59 +1,69 @@
 """Second nets of flat nets: a spot for each land, so that what joins them stands at right angles to the cords."""
 
-from cordsatrest.borders import land_pairs, led_over
-from cordsatrest.errors import BadSecond, BadStress
-from cordsatrest.flat import balances, is_spot, must_be_flat
-from cordsatrest.nets import place_of
-from cordsatrest.plane import turned
-from cordsatrest.ratios import NOUGHT, factor_between, minus, noughts, row_less, row_product, row_times
-from cordsatrest.roofs import many_lands, roof_of
+from cordsatrest.borders import gaps_in, led_over
+from cordsatrest.charts import times_turned
+from cordsatrest.errors import BadSecond
+from cordsatrest.flat import flat_lands, is_spot
+from cordsatrest.ratios import ratio_rows, whole_rows
+from cordsatrest.roofs import planes_by
 
 
-def way_along(net, cord):
-    """The way from the end of a cord that is named first to the other one."""
-    start, end = [place_of(net, name) for name in net.cords[cord]]
-    return row_less(end, start)
+def are_spots(lands, value):
+    """Whether any value is a spot for each land."""
+    return isinstance(value, tuple) and len(value) == len(lands.walks) and all([is_spot(spot) for spot in value])
 
 
-def are_across(net, spots):
-    """Whether for each cord the spots of both its lands lie at right angles to it."""
-    for cord, (left, right) in enumerate(land_pairs(net)):
-        if row_product(row_less(spots[left], spots[right]), way_along(net, cord)) != NOUGHT:
-            return False
-    return True
+def slopes_in(lands, value):
+    """(slopes, gaps, factor) of any value that is a second net, None if it is none.
+
+    Slopes are the contrary numbers of its spots times the factor, integers; gaps: what they differ by at each cord.
+    """
+    if not are_spots(lands, value):
+        return None
+    spots, factor = whole_rows(value)
+    slopes = [(-x, -y) for x, y in spots]
+    gaps = gaps_in(lands, slopes)
+    for (a, b), (x, y) in zip(gaps, lands.chart.ways):
+        if a * x + b * y != 0:
+            return None
+    return slopes, gaps, factor
+
+
+def slopes_by(lands, second):
+    """As slopes_in, for any value, which is refused unless it is a second net."""
+    found = slopes_in(lands, second)
+    if found is None:
+        raise BadSecond(second)
+    return found
 
 
 def is_second(net, value):
     """Whether any value is a second net."""
-    must_be_flat(net)
-    if not isinstance(value, tuple) or len(value) != many_lands(net) or not all([is_spot(spot) for spot in value]):
-        return False
-    return are_across(net, value)
+    return slopes_in(flat_lands(net), value) is not None
 
 
 def second_of(net, stress):
     """The second net that belongs to a stress: land 0 has the spot (0, 0)."""
-    must_be_flat(net)
-    if not balances(net, stress):
-        raise BadStress(stress)
-    gains = []
-    for cord, part in enumerate(stress):
-        gains.append(row_times(turned(way_along(net, cord)), minus(NOUGHT, part)))
-    return led_over(land_pairs(net), noughts(2), gains)
+    planes, factor = planes_by(net, stress)
+    return ratio_rows([(-a, -b) for a, b, _ in planes], factor)
 
 
 def stress_by(net, second):
     """The stress to which a second net belongs, shifted perhaps."""
-    if not is_second(net, second):
-        raise BadSecond(second)
-    found = []
-    for cord, (left, right) in enumerate(land_pairs(net)):
-        found.append(factor_between(row_less(second[left], second[right]), turned(way_along(net, cord))))
-    return tuple(found)
+    lands = flat_lands(net)
+    _, gaps, factor = slopes_by(lands, second)
+    return times_turned(lands.chart, gaps, factor)
 
 
 def roof_by(net, second):
     """The roof whose planes have the contrary numbers of a second net's spots, and height 0 of land 0 over (0, 0)."""
-    # shifting a second net adds one plane to the roof, with no height over (0, 0)
-    roof = roof_of(net, stress_by(net, second))
-    return tuple([row_times(spot, (-1, 1)) + plane[2:] for spot, plane in zip(second, roof)])
+    lands = flat_lands(net)
+    slopes, gaps, factor = slopes_by(lands, second)
+    scale, gains = lands.chart.scale, []
+    for (a, b), (one, _) in zip(gaps, lands.chart.steps):
+        x, y = lands.chart.spots[one]
+        # both planes have one height there; all spots have the chart's scale
+        gains.append([-a * x - b * y])
+    heights = led_over(lands, [0], gains)
+    planes = [(a * scale, b * scale, row[0]) for (a, b), row in zip(slopes, heights)]
+    return ratio_rows(planes, factor * scale)

@@ -75,6 +75,9 @@ FLAT = {
     'with the clock': ['net 2', 'peg a 0 0', 'peg b 0 4', 'peg c 4 0'],
     'cords at one end': SQUARE + ['ring r 2 2 0 0', 'ring s 2 4 0 0', 'cord d r', 'cord s r', 'cord a r'],
     'a ring close to the rim': TRIANGLE + ['ring r 2 1/60 0 0', 'cord r c'],
+    'a ring as close to the rim as whole numbers let': [
+        'net 2', 'peg a 0 0', 'peg b 1 0', 'peg c 3 3', 'peg d -2 3', 'ring r 0 1 0 0', 'cord r a',
+    ],
     'a ring close to the rim, aslant': TRIANGLE + ['ring r 119/60 2 5 -7', 'cord a r'],
     'a cord close to a ring': SQUARE + ['ring r 2 2 0 0', 'ring s 1 59/60 0 0', 'cord a r', 'cord b s'],
     'straight on': SQUARE + ['ring r 1 1 0 0', 'ring s 2 2 0 0', 'cord a r', 'cord r s'],
@@ -272,13 +275,13 @@ def equations(net):
 
 
 def stresses_of(net, basis, many=4, seed=5):
-    """Some stresses: sums of those of the basis."""
+    """Some stresses: sums of those of the basis, the last one with numbers of many figures."""
     chance = random.Random(seed)
     found = [((0, 1),) * len(net.cords)]
-    for _ in range(many if basis else 0):
+    for top, bottom in [(5, 4)] * many + [(10 ** 12 - 1, 10 ** 12 - 1)] if basis else []:
         total = [Fraction(0)] * len(net.cords)
         for row in basis:
-            part = Fraction(chance.randint(-5, 5), chance.randint(1, 4))
+            part = Fraction(chance.randint(-top, top), chance.randint(1, bottom))
             total = [a + part * b for a, b in zip(total, exact(row))]
         found.append(tuple(told(part) for part in total))
     return found
